@@ -1,0 +1,1 @@
+"""Webs whose places can leave one by one: see README.md."""
