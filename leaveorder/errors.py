@@ -93,7 +93,7 @@ class NothingToUndo(LeaveError):
 
 
 class NoSpan(LeaveError):
-    """No span is open."""
+    """There is no span that could be ended."""
 
 
 class NotReady(LeaveError):

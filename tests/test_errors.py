@@ -46,6 +46,8 @@ class ErrorTest(unittest.TestCase):
                 self.assertIs(getattr(by_position, field), value, name)
                 self.assertIs(getattr(by_name, field), value, name)
                 self.assertEqual(list(vars(by_position)), [field])
+                self.assertIn(str(value), str(by_position))
+                self.assertEqual(str(by_name), str(by_position))
 
     def test_those_with_a_field_want_just_one_value(self):
         for name in WITH_A_FIELD:

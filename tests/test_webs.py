@@ -5,7 +5,7 @@ import unittest
 from itertools import permutations
 
 from leaveorder.bare_rounds import bare_ring, rest
-from leaveorder.errors import InvalidLot, Refused, TooMany
+from leaveorder.errors import InvalidLot, InvalidText, Refused, TooMany
 from leaveorder.webs import (beside, inner, is_apart, is_tied, is_web, less_tie, mirrored, neighbours, pieces, renamed,
                              web_told, with_tie)
 from tests import oracle
@@ -53,6 +53,14 @@ class IsWebTest(unittest.TestCase):
         self.assertIs(is_web(Row((2, ()))), False)
         self.assertIs(is_web((2, Row(()))), False)
         self.assertIs(is_web((2, (Row((0, 1)),))), False)
+
+    def test_objects_of_other_classes_with_the_same_names(self):
+        for name in ("int", "tuple", "str"):
+            odd = type(name, (), {})()
+            for value in (odd, (odd, ()), (2, odd), (2, (odd,)), (2, ((0, odd),))):
+                self.assertIs(is_web(value), False)
+            with self.assertRaises(InvalidText):
+                web_told(odd)
 
 
 class AskedTest(unittest.TestCase):
