@@ -1,7 +1,8 @@
 """The errors of parameters that several functions have, each raised in one place."""
 
-from leaveorder.errors import InvalidLot, InvalidPlace, InvalidRow, InvalidTie, InvalidWeb
-from leaveorder.forms import is_lot_form, is_pair_form, is_unlike_places, is_web_form, is_within
+from leaveorder.errors import InvalidCount, InvalidLot, InvalidPlace, InvalidRow, InvalidTie, InvalidWeb
+from leaveorder.forms import is_int, is_lot_form, is_pair_form, is_row_form, is_web_form, is_within
+from leaveorder.masks import hitch_of, near_masks
 
 
 def check_web(web):
@@ -37,5 +38,18 @@ def check_lot(web, lot):
 
 def check_row(web, row):
     """Raise InvalidRow unless this is a tuple of all places of the web, each once."""
-    if not is_unlike_places(web[0], row) or len(row) != web[0]:
+    if not is_row_form(web[0], row):
         raise InvalidRow("a tuple of all places of the web, each once, is wanted")
+
+
+def check_order(web, order):
+    """Raise InvalidRow unless this is a leaving order of the web."""
+    check_row(web, order)
+    if hitch_of(near_masks(web), order) is not None:
+        raise InvalidRow("a leaving order of the web is wanted")
+
+
+def check_number(number):
+    """Raise InvalidCount unless this is an integer from 0 on."""
+    if not is_int(number) or number < 0:
+        raise InvalidCount("an integer from 0 on is wanted")

@@ -19,6 +19,11 @@ def is_tuple(value):
     return isinstance(value, tuple) and value.__class__.__name__ == "tuple"
 
 
+def is_list(value):
+    """Whether the value is a list."""
+    return isinstance(value, list) and value.__class__.__name__ == "list"
+
+
 def is_within(value, low, high):
     """Whether the value is an integer from low to high."""
     return is_int(value) and low <= value <= high
@@ -37,6 +42,11 @@ def is_places(count, value):
 def is_unlike_places(count, value):
     """Whether the value is a tuple of some of so many places, each once."""
     return is_places(count, value) and is_ascending(sorted(value))
+
+
+def is_row_form(count, value):
+    """Whether the value is a tuple of all of so many places, each once."""
+    return is_unlike_places(count, value) and len(value) == count
 
 
 def is_lot_form(count, value):

@@ -17,6 +17,11 @@ def lot_of(mask):
     return tuple([place for place in range(mask.bit_length()) if mask >> place & 1])
 
 
+def least_of(mask):
+    """The least place of the mask, which has one."""
+    return (mask & -mask).bit_length() - 1
+
+
 def full_mask(web):
     """The mask of all places of the web."""
     return (1 << web[0]) - 1
@@ -36,6 +41,11 @@ def is_tied_mask(near, mask):
     return all([(mask & ~near[place]) == (1 << place) for place in lot_of(mask)])
 
 
+def first_untied(near, lot):
+    """The first (x, y), x less than y, of places of the lot that are not tied; None if there is none."""
+    return min([(x, y) for x in lot for y in lot if x < y and not near[x] >> y & 1], default=None)
+
+
 def is_apart_mask(near, mask):
     """Whether no two places of the mask are tied."""
     return all([(mask & near[place]) == 0 for place in lot_of(mask)])
@@ -46,12 +56,62 @@ def leavers(near, mask):
     return mask_of([place for place in lot_of(mask) if is_tied_mask(near, near[place] & mask)])
 
 
+def later_masks(near, row):
+    """The list that has, for each place of the row, the mask of its neighbours behind it there."""
+    return [near[place] & mask_of(row[at:]) for at, place in enumerate(row)]
+
+
+def hitch_of(near, row):
+    """The least index of the row whose place may not leave when those ahead have gone; None if there is none."""
+    for at, later in enumerate(later_masks(near, row)):
+        if not is_tied_mask(near, later):
+            return at
+    return None
+
+
+def around(near, mask):
+    """The mask of the places outside of the mask that have a neighbour in it."""
+    reached = 0
+    for place in lot_of(mask):
+        reached |= near[place]
+    return reached & ~mask
+
+
 def piece_with(near, mask, place):
     """The mask of what is reached from the place along ties between places of the mask."""
     piece = 0
-    grown = 1 << place
-    while grown != piece:
-        piece = grown
-        for other in lot_of(piece):
-            grown |= near[other] & mask
+    fresh = 1 << place
+    while fresh:
+        piece |= fresh
+        fresh = around(near, piece) & mask
     return piece
+
+
+def pieces_of(near, mask):
+    """The list of the masks of the pieces of the mask, ascending as lots."""
+    found = []
+    while mask:
+        # The least place left is the first of its piece, so the pieces come ascending.
+        found.append(piece_with(near, mask, least_of(mask)))
+        mask = mask & ~found[-1]
+    return found
+
+
+def shortest_way(near, mask, starts, ends):
+    """A shortest tuple of places of the mask, next ones tied, from one of the starts to one of the ends.
+
+    starts and ends are masks within the mask; it is () if there is no such way.
+    """
+    ways = [(place,) for place in lot_of(starts)]
+    left = mask & ~starts
+    while ways:
+        for way in ways:
+            if ends >> way[-1] & 1:
+                return way
+        longer = []
+        for way in ways:
+            fresh = near[way[-1]] & left
+            left = left & ~fresh
+            longer.extend([(*way, place) for place in lot_of(fresh)])
+        ways = longer
+    return ()

@@ -3,7 +3,7 @@
 from leaveorder.checks import check_lot, check_other_place, check_place, check_row, check_tie, check_web
 from leaveorder.errors import InvalidLot, InvalidText, Refused, TooMany
 from leaveorder.forms import MOST_PLACES, is_text, is_web_form
-from leaveorder.masks import full_mask, is_apart_mask, is_tied_mask, lot_of, mask_of, near_masks, piece_with
+from leaveorder.masks import full_mask, is_apart_mask, is_tied_mask, lot_of, mask_of, near_masks, pieces_of
 
 LETTERS = "abcdefghijkl"
 
@@ -38,15 +38,7 @@ def pieces(web, lot=()):
     """The list of the pieces without the lot, ascending as tuples."""
     check_web(web)
     check_lot(web, lot)
-    near = near_masks(web)
-    left = full_mask(web) & ~mask_of(lot)
-    found = []
-    while left:
-        # The least place left is the first of its piece, so the pieces come ascending.
-        piece = piece_with(near, left, lot_of(left)[0])
-        found.append(lot_of(piece))
-        left = left & ~piece
-    return found
+    return [lot_of(piece) for piece in pieces_of(near_masks(web), full_mask(web) & ~mask_of(lot))]
 
 
 def inner(web, lot):

@@ -1,81 +1,17 @@
-"""[2], [3], [4]: wrong arguments and their sequence, names, new lists, unchanged arguments, time."""
+"""[2], [3], [4]: wrong arguments and their sequence, names, new lists, unchanged arguments."""
 
 import copy
 import inspect
-import time
 import unittest
 from itertools import combinations
 
-from leaveorder import bare_rounds, errors, webs
-from tests.at_hand import BIG, ODD_VALUES, bare_web, deep, full_web, large_webs, ring_web, two_sided_web
+from leaveorder import bare_rounds, errors, leaving, lot_trees, partings, webs, whole_lots
+from tests.at_hand import BIG, ODD_VALUES, bare_web, deep, full_web, ring_web
+from tests.calls import (ANY_VALUE, CALLS, ERRORS, FAN, HOUSE, LISTS, MODULES, OTHER_TREE, TREE, TWIG, WRONG_WEBS,
+                         wrong_values)
 
-FAN = (4, ((0, 1), (0, 2), (0, 3), (1, 2), (2, 3)))
-HOUSE = (5, ((0, 1), (0, 3), (0, 4), (1, 2), (1, 4), (2, 3)))
-
-# Each function, its parameters and right arguments, all of them of the house.
-CALLS = [
-    (webs.neighbours, ("web", "place"), (HOUSE, 2)),
-    (webs.is_tied, ("web", "lot"), (HOUSE, (0, 1))),
-    (webs.is_apart, ("web", "lot"), (HOUSE, (0, 2))),
-    (webs.pieces, ("web", "lot"), (HOUSE, (0, 2))),
-    (webs.inner, ("web", "lot"), (HOUSE, (0, 2, 3))),
-    (webs.renamed, ("web", "row"), (HOUSE, (4, 2, 0, 1, 3))),
-    (webs.beside, ("web", "other_web"), (HOUSE, FAN)),
-    (webs.with_tie, ("web", "place", "other_place"), (HOUSE, 4, 2)),
-    (webs.less_tie, ("web", "tie"), (HOUSE, (1, 4))),
-    (webs.mirrored, ("web",), (HOUSE,)),
-    (webs.web_text, ("web",), (HOUSE,)),
-    (bare_rounds.is_bare, ("web", "value"), (HOUSE, (0, 1, 2, 3))),
-    (bare_rounds.bare_ring, ("web",), (HOUSE,)),
-    (bare_rounds.bare_rings, ("web",), (HOUSE,)),
-    (bare_rounds.least_bare, ("web",), (HOUSE,)),
-    (bare_rounds.bare_through, ("web", "tie"), (HOUSE, (0, 3))),
-    (bare_rounds.ring_told, ("web", "row"), (HOUSE, (3, 2, 1, 0))),
-    (bare_rounds.ties_across, ("web", "row"), (HOUSE, (3, 2, 1, 4, 0))),
-    (bare_rounds.bared, ("web", "row"), (HOUSE, (3, 2, 1, 4, 0))),
-    (bare_rounds.rest, ("web",), (HOUSE,)),
-    (bare_rounds.rest_among, ("web", "lot"), (HOUSE, (0, 1, 2, 3))),
-    (bare_rounds.least_stuck, ("web",), (HOUSE,)),
-]
-ANY_VALUE = [(webs.is_web, ("value",), (HOUSE,)), (webs.web_told, ("text",), ("e:ab,de",))]
-
-ERRORS = {
-    "web": errors.InvalidWeb, "other_web": errors.InvalidWeb, "place": errors.InvalidPlace,
-    "other_place": errors.InvalidPlace, "tie": errors.InvalidTie, "lot": errors.InvalidLot, "row": errors.InvalidRow,
-}
-
-WRONG_WEBS = ODD_VALUES + [
-    (), (5,), 5, (5, [], ()), [5, ()], (5, []), (5, None), (0, ()), (13, ()), (True, ()), ("5", ()), (None, ()),
-    (BIG, ()), (5, ((1, 0),)), (5, ((0, 0),)), (5, ((0, 5),)), (5, ((0, 1), (0, 1))), (5, ((0, 2), (0, 1))),
-    (5, ([0, 1],)), (5, ((0, True),)), (5, ((0, BIG),)), (5, (deep(tuple),)), (5, deep(list)), "e:ab",
-]
-WRONG_PLACES = ODD_VALUES + [5, (0,), "2", (2,), [2], HOUSE]
-WRONG_LOTS = ODD_VALUES + [
-    (1, 0), (0, 0), (0, 5), (0, 1, 1), [0, 2], (0, True), (0, (1,)), (0, 2, None), (0, 1, 2, 3, 4, 5), HOUSE, 0,
-]
-WRONG_ROWS = ODD_VALUES + [
-    (), (0,), (0, 1, 2, 3, 4, 5), (0, 1, 2, 3, 3), (0, 1, 2, 3, 5), (-1, 0, 1, 2, 3), (False, 1, 2, 3, 4),
-    (0, True, 2, 3, 4), [0, 1, 2, 3, 4], [3, 2, 1, 0], (0, 1, 2, 3, BIG), (0, 1, 2, 3, (4,)), (0, 1, 2, 3, "e"), 0,
-    (0, 1, 2, 3, None), (0, 1, 2, 3, deep(list)), HOUSE, (1, 2, 3), (0, 1, 4), (0, 1, 2, 3, 4, 0),
-]
-WRONG_TIES = ODD_VALUES + [
-    (0, 2), (2, 4), (1, 0), (3, 0), (0, 0), [0, 1], (0, True), (False, 1), (0, 1, 4), (0,), (), (4, 5), 0, HOUSE,
-    ((0, 1),), (0, 5), (True, 2), (1, 4, None),
-]
-
-
-def wrong_values(function, name):
-    """Wrong arguments for the parameter of the function, if all else is as in the list of calls."""
-    wrong = {
-        "web": WRONG_WEBS, "other_web": WRONG_WEBS, "place": WRONG_PLACES, "other_place": WRONG_PLACES + [4],
-        "tie": WRONG_TIES, "lot": WRONG_LOTS, "row": WRONG_ROWS,
-    }[name]
-    if name == "lot" and function is webs.inner:
-        return wrong + [()]
-    if name == "row":
-        # A row of four places is right for a round; one that does not go round is right for renamed.
-        return wrong + ([(0, 1, 2, 3)] if function is webs.renamed else [(0, 1, 2, 4), (0, 1, 2, 3, 4), (0, 1, 3, 4)])
-    return wrong
+# Joining trees of the twig's whole lots that are no lot trees, as the places 3 and 0 tell.
+NO_TREE, OTHER_NO_TREE = ((0, 1), (0, 2), (0, 3)), ((0, 3), (1, 3), (2, 3))
 
 
 class WrongArgumentsTest(unittest.TestCase):
@@ -92,7 +28,7 @@ class WrongArgumentsTest(unittest.TestCase):
     def test_each_wrong_argument_alone(self):
         for function, names, right in CALLS:
             for at, name in enumerate(names):
-                for wrong in wrong_values(function, name) if name in ERRORS else ():
+                for wrong in wrong_values(function, names, right, name) if name in ERRORS else ():
                     arguments = [*right[:at], wrong, *right[at + 1:]]
                     self.assertIs(self.raised(function, arguments), ERRORS[name], (function.__name__, name, wrong))
 
@@ -101,8 +37,8 @@ class WrongArgumentsTest(unittest.TestCase):
             for i, j in combinations(range(len(names)), 2):
                 if names[i] not in ERRORS or names[j] not in ERRORS:
                     continue
-                for wrong in wrong_values(function, names[i])[::3]:
-                    for other in wrong_values(function, names[j])[::4]:
+                for wrong in wrong_values(function, names, right, names[i])[::3]:
+                    for other in wrong_values(function, names, right, names[j])[::4]:
                         arguments = list(right)
                         arguments[i], arguments[j] = wrong, other
                         self.assertIs(self.raised(function, arguments), ERRORS[names[i]], (function.__name__, arguments))
@@ -115,7 +51,9 @@ class WrongArgumentsTest(unittest.TestCase):
     def test_a_wrong_web_beside_any_value(self):
         for wrong in WRONG_WEBS:
             for value in ODD_VALUES[::6]:
-                self.assertIs(self.raised(bare_rounds.is_bare, [wrong, value]), errors.InvalidWeb)
+                for function in (bare_rounds.is_bare, leaving.is_order, lot_trees.is_lot_tree):
+                    self.assertIs(self.raised(function, [wrong, value]), errors.InvalidWeb)
+                self.assertIs(self.raised(lot_trees.is_tree_row, [wrong, TREE, TREE, value]), errors.InvalidWeb)
 
     def test_errors_of_the_parameters_ahead_of_those_of_the_point(self):
         big = bare_web(12)
@@ -129,6 +67,43 @@ class WrongArgumentsTest(unittest.TestCase):
         self.assertIs(self.raised(bare_rounds.bare_rings, [(11, [])]), errors.InvalidWeb)
         self.assertIs(self.raised(bare_rounds.bare_rings, [(11, ())]), errors.TooMany)
 
+    def test_errors_of_the_point_in_its_sequence(self):
+        ring, big_ring = ring_web(4), ring_web(12)
+        for function, arguments, error in (
+                (leaving.order_ending, (ring, (0, 1, 2)), errors.NotTied),
+                (leaving.order_ending, (ring, [0, 2]), errors.InvalidLot),
+                (leaving.order_ending, (ring, (0, 1)), errors.NotLeaving),
+                (leaving.order_ending, (FAN, (1, 3)), errors.NotTied),
+                (whole_lots.heads, (ring, (0, 1, 2, 3)), errors.InvalidRow),
+                (partings.least_in, (ring, (0, 1), 0, 2), errors.NotParting),
+                (partings.least_in, (ring, (0, 1), 0, 0), errors.InvalidPlace),
+                (partings.least_in, (ring, (1, 0), 0, 0), errors.InvalidLot),
+                (lot_trees.trees, (big_ring,), errors.NotLeaving),
+                (lot_trees.trees, (bare_web(7),), errors.TooMany),
+                (lot_trees.nth_tree, (big_ring, -1), errors.InvalidCount),
+                (lot_trees.nth_tree, (big_ring, BIG), errors.NotLeaving),
+                (lot_trees.tree_number, (ring, ((0, 1), (0, 2), (1, 3))), errors.NotTree),
+                (lot_trees.tree_number, (TWIG, NO_TREE), errors.NotTree),
+                (lot_trees.way_meets, (TWIG, NO_TREE, 0, 0), errors.InvalidPlace),
+                (lot_trees.way_meets, (TWIG, NO_TREE, 0, 1), errors.NotTree),
+                (lot_trees.tree_exchanges, (TWIG, NO_TREE), errors.NotTree),
+                (lot_trees.tree_exchanged, (TWIG, NO_TREE, (0, 1), (0, 4)), errors.InvalidBranch),
+                (lot_trees.tree_exchanged, (TWIG, NO_TREE, (1, 0), (0, 1)), errors.InvalidBranch),
+                (lot_trees.tree_exchanged, (TWIG, NO_TREE, (0, 1), (0, 1)), errors.NotTree),
+                (lot_trees.tree_exchanged, (TWIG, NO_TREE, (0, 3), (2, 3)), errors.NotTree),
+                (lot_trees.tree_exchanged, (TWIG, TREE, (0, 1), (0, 1)), errors.Refused),
+                (lot_trees.tree_row, (TWIG, NO_TREE, ((0, 1),)), errors.InvalidTree),
+                (lot_trees.tree_row, (TWIG, TREE, NO_TREE), errors.NotTree),
+                (lot_trees.is_tree_row, (TWIG, NO_TREE, ((0, 1),), []), errors.InvalidTree)):
+            self.assertIs(self.raised(function, list(arguments)), error, (function.__name__, arguments))
+
+    def test_of_two_trees_that_are_none_the_first_one_is_told(self):
+        for first, second, place in ((NO_TREE, OTHER_NO_TREE, 3), (OTHER_NO_TREE, NO_TREE, 0), (TREE, NO_TREE, 3),
+                                     (OTHER_NO_TREE, TREE, 0), (TREE, OTHER_NO_TREE, 0)):
+            with self.assertRaises(errors.NotTree) as caught:
+                lot_trees.tree_row(TWIG, first, second)
+            self.assertEqual(caught.exception.place, place)
+
     def test_places_of_the_edges(self):
         for count in (1, 12):
             for place in (-1, count, count + 1, BIG, -BIG, True, None, (0,)):
@@ -140,6 +115,10 @@ class WrongArgumentsTest(unittest.TestCase):
         self.assertIs(self.raised(bare_rounds.bare_through, [bare_web(1), (0, 1)]), errors.InvalidTie)
         self.assertIs(self.raised(webs.renamed, [bare_web(1), ()]), errors.InvalidRow)
         self.assertIs(self.raised(webs.renamed, [bare_web(1), (False,)]), errors.InvalidRow)
+        self.assertIs(self.raised(whole_lots.heads, [bare_web(1), (False,)]), errors.InvalidRow)
+        self.assertIs(self.raised(partings.partings_of, [bare_web(1), 0, 0]), errors.InvalidPlace)
+        self.assertIs(self.raised(lot_trees.meets, [bare_web(1), ((0, 1),)]), errors.InvalidTree)
+        self.assertIs(self.raised(lot_trees.tree_exchanged, [full_web(12), (), (0, 1), (0, 1)]), errors.InvalidBranch)
 
     def test_objects_of_subclasses(self):
         class Number(int):
@@ -159,6 +138,21 @@ class WrongArgumentsTest(unittest.TestCase):
         self.assertIs(self.raised(webs.renamed, [FAN, Row((0, 1, 2, 3))]), errors.InvalidRow)
         self.assertIs(self.raised(webs.web_told, [Words("a:")]), errors.InvalidText)
         self.assertIs(bare_rounds.is_bare(HOUSE, Row((0, 1, 2, 3))), False)
+        self.assertIs(leaving.is_order(TWIG, Row((1, 2, 0, 3, 4))), False)
+        self.assertIs(self.raised(whole_lots.heads, [TWIG, Row((1, 2, 0, 3, 4))]), errors.InvalidRow)
+        self.assertIs(self.raised(lot_trees.nth_tree, [TWIG, Number(0)]), errors.InvalidCount)
+        self.assertIs(self.raised(lot_trees.meets, [TWIG, Row(TREE)]), errors.InvalidTree)
+        self.assertIs(self.raised(lot_trees.meets, [TWIG, (Row(TREE[0]), *TREE[1:])]), errors.InvalidTree)
+        self.assertIs(self.raised(lot_trees.tree_exchanged, [TWIG, TREE, Row((0, 1)), (1, 2)]), errors.InvalidBranch)
+        self.assertIs(self.raised(lot_trees.tree_exchanged, [TWIG, TREE, (0, 1), (1, Number(2))]), errors.InvalidBranch)
+        self.assertIs(lot_trees.is_lot_tree(TWIG, Row(TREE)), False)
+
+        class Steps(list):
+            pass
+
+        self.assertIs(lot_trees.is_tree_row(TWIG, TREE, TREE, []), True)
+        self.assertIs(lot_trees.is_tree_row(TWIG, TREE, TREE, Steps()), False)
+        self.assertIs(lot_trees.is_tree_row(TWIG, TREE, OTHER_TREE, [Row(((0, 1), (1, 2)))]), False)
 
 
 class CallsTest(unittest.TestCase):
@@ -167,14 +161,17 @@ class CallsTest(unittest.TestCase):
         for function, names, _ in CALLS + ANY_VALUE:
             self.assertEqual(tuple(inspect.signature(function).parameters), names, function.__name__)
             self.assertTrue(inspect.isfunction(function))
-        listed = {webs: "leaveorder.webs", bare_rounds: "leaveorder.bare_rounds"}
-        for module, file in listed.items():
-            for function, _, _ in CALLS + ANY_VALUE:
-                if getattr(module, function.__name__, None) is function:
-                    self.assertEqual(function.__module__, file)
-        defaults = [(function.__name__, inspect.signature(function).parameters["lot"].default)
-                    for function, names, _ in CALLS if "lot" in names]
-        self.assertEqual([name for name, value in defaults if value == ()], ["pieces"])
+            self.assertIn(function.__module__, [module.__name__ for module in MODULES])
+        defaults = [function.__name__ for function, names, _ in CALLS for parameter in
+                    inspect.signature(function).parameters.values() if parameter.default is not parameter.empty]
+        self.assertEqual(defaults, ["pieces", "may_leave"])
+
+    def test_each_function_of_the_files_is_in_the_list_of_calls(self):
+        listed = [(function.__module__, function.__name__) for function, _, _ in CALLS + ANY_VALUE]
+        self.assertEqual(len(listed), len(set(listed)))
+        for name, count in (("webs", 13), ("leaving", 7), ("bare_rounds", 11), ("whole_lots", 6), ("partings", 10),
+                            ("lot_trees", 16)):
+            self.assertEqual(len([1 for module, _ in listed if module == "leaveorder." + name]), count, name)
 
     def test_by_name_as_by_position(self):
         for function, names, right in CALLS + ANY_VALUE:
@@ -182,6 +179,7 @@ class CallsTest(unittest.TestCase):
             self.assertEqual(function(**dict(zip(names, right))), told)
             self.assertEqual(function(*right[:1], **dict(zip(names[1:], right[1:]))), told)
         self.assertEqual(webs.pieces(web=HOUSE), [(0, 1, 2, 3, 4)])
+        self.assertEqual(leaving.may_leave(web=HOUSE), leaving.may_leave(HOUSE, ()))
 
     def test_no_argument_is_changed(self):
         for function, _, right in CALLS + ANY_VALUE:
@@ -192,12 +190,15 @@ class CallsTest(unittest.TestCase):
             kept = copy.deepcopy(value)
             webs.is_web(value)
             bare_rounds.is_bare(HOUSE, value)
+            leaving.is_order(TWIG, value)
+            lot_trees.is_lot_tree(TWIG, value)
+            lot_trees.is_tree_row(TWIG, TREE, OTHER_TREE, value)
             self.assertEqual(repr(value), repr(kept))
 
     def test_lists_are_new(self):
-        for function, arguments in (
-                (webs.pieces, (HOUSE, (0, 2))), (webs.pieces, (HOUSE,)), (bare_rounds.bare_rings, (HOUSE,)),
-                (bare_rounds.bare_rings, (FAN,)), (webs.pieces, (bare_web(1), (0,)))):
+        for function, arguments in [
+                *[(function, right) for function, _, right in CALLS if function in LISTS], (webs.pieces, (HOUSE,)),
+                (bare_rounds.bare_rings, (FAN,)), (webs.pieces, (bare_web(1), (0,))), (lot_trees.branches, (FAN,))]:
             first = function(*arguments)
             told = copy.deepcopy(first)
             first.append("more")
@@ -210,8 +211,9 @@ class CallsTest(unittest.TestCase):
             told = function(*right)
             if function.__name__.startswith("is_"):
                 self.assertIs(type(told), bool)
-            elif function in (webs.pieces, bare_rounds.bare_rings):
+            elif function in LISTS:
                 self.assertIs(type(told), list)
+                self.assertTrue(told and plain(tuple(told)), function.__name__)
             elif function is webs.web_text:
                 self.assertIs(type(told), str)
             else:
@@ -220,21 +222,6 @@ class CallsTest(unittest.TestCase):
     def test_equal_arguments_equal_results(self):
         for function, _, right in CALLS:
             self.assertEqual(function(*right), function(*copy.deepcopy(right)))
-
-    def test_twelve_places_take_no_long_time(self):
-        every = tuple(range(12))
-        for web in [web for web in large_webs() if web[0] == 12] + [full_web(12), two_sided_web(12), ring_web(12)]:
-            begun = time.monotonic()
-            for function in (bare_rounds.bare_ring, bare_rounds.least_bare, bare_rounds.rest, bare_rounds.least_stuck,
-                             webs.pieces, webs.mirrored, webs.web_text):
-                function(web)
-            for tie in web[1]:
-                bare_rounds.bare_through(web, tie)
-            bare_rounds.rest_among(web, every)
-            webs.is_tied(web, every)
-            self.assertLess(time.monotonic() - begun, 5)
-        bare_rounds.bared(full_web(12), every)
-
 
 def plain(value):
     """Whether the value has only tuples and integers, or is None."""

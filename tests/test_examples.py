@@ -1,15 +1,23 @@
-"""The rows of the document's examples that use webs and bare rounds alone."""
+"""The rows of the document's examples of parts 1 to 4."""
 
 import unittest
 
 from leaveorder.bare_rounds import (bare_ring, bare_rings, bare_through, bared, is_bare, least_bare, least_stuck, rest,
                                     rest_among, ring_told, ties_across)
-from leaveorder.errors import InvalidText
+from leaveorder.errors import InvalidText, NotLeaving, NotParting, NotTied, NotTree
+from leaveorder.leaving import (first_hitch, first_order, is_order, later_neighbours, may_leave, order_ending)
+from leaveorder.lot_trees import (branches, first_tree, fixed_branches, is_lot_tree, meets, nth_tree, split_place,
+                                  tree_count, tree_exchanged, tree_exchanges, tree_number, tree_row, tree_sum, trees,
+                                  way_meets)
+from leaveorder.partings import (fewest_parting, first_crossing, full_pieces, is_crossing, is_least_parting, is_parting,
+                                 least_in, part_counts, partings, partings_of)
 from leaveorder.webs import is_apart, is_tied, mirrored, neighbours, web_text, web_told
+from leaveorder.whole_lots import greatest_lot, heads, is_whole, lots_with, tied_counts, whole_lots
 
 path, ring = web_told("d:ab,bc,cd"), web_told("d:ab,ad,bc,cd")
 fan = web_told("d:ab,ac,ad,bc,cd")
 house = web_told("e:ab,ad,ae,bc,be,cd")
+star = web_told("d:ab,ac,ad")
 
 
 class ExamplesTest(unittest.TestCase):
@@ -59,6 +67,89 @@ class ExamplesTest(unittest.TestCase):
         for text, web in told.items():
             self.assertEqual(web_told(text), web)
             self.assertEqual(web_text(web), text)
+
+
+class LeavingExamplesTest(unittest.TestCase):
+
+    def test_who_may_leave(self):
+        self.assertEqual(
+            [may_leave(path), may_leave(fan), may_leave(ring), may_leave(ring, (2,)), may_leave(fan, (0, 1, 2, 3))],
+            [(0, 3), (1, 3), (), (1, 3), ()])
+
+    def test_orders(self):
+        self.assertEqual(
+            [first_order(path), first_order(fan), order_ending(fan, (1, 2)), order_ending(path, (3,)),
+             is_order(path, (3, 0, 2, 1))],
+            [(0, 1, 2, 3), (1, 0, 2, 3), (3, 0, 1, 2), (0, 1, 2, 3), True])
+        self.assertEqual(
+            [later_neighbours(fan, (1, 3, 2, 0)), first_hitch(path, (0, 2, 1, 3)), first_hitch(path, (3, 2, 1, 0))],
+            [[(0, 2), (0, 2), (0,), ()], 1, None])
+
+    def test_errors(self):
+        with self.assertRaises(NotLeaving) as caught:
+            first_order(ring)
+        self.assertEqual(caught.exception.ring, (0, 1, 2, 3))
+        with self.assertRaises(NotTied) as caught:
+            order_ending(path, (0, 1, 3))
+        self.assertEqual(caught.exception.tie, (0, 3))
+
+
+class LotExamplesTest(unittest.TestCase):
+
+    def test_whole_lots(self):
+        self.assertEqual(
+            [whole_lots(path), whole_lots(fan), lots_with(star, 2), greatest_lot(fan), is_whole(fan, (0, 2))],
+            [[(0, 1), (1, 2), (2, 3)], [(0, 1, 2), (0, 2, 3)], [(0, 2)], (0, 1, 2), False])
+        self.assertEqual(
+            [tied_counts(fan), tied_counts(ring), heads(fan, (1, 3, 2, 0))],
+            [(1, 4, 5, 2), (1, 4, 4), (1, 3)])
+
+    def test_partings(self):
+        self.assertEqual(
+            [is_parting(path, (1, 2), 0, 3), is_least_parting(path, (1, 2), 0, 3), partings_of(path, 0, 3),
+             fewest_parting(ring, 0, 2)],
+            [True, False, [(1,), (2,)], (1, 3)])
+        self.assertEqual(
+            [partings(ring), partings(star), full_pieces(star, (0,)), full_pieces(path, ()),
+             least_in(path, (1, 2), 0, 3) in [(1,), (2,)]],
+            [[(0, 2), (1, 3)], [(0,)], [(1,), (2,), (3,)], [(0, 1, 2, 3)], True])
+        self.assertEqual(
+            [is_crossing(ring, (0, 2), (1, 3)), first_crossing(ring), first_crossing(fan), part_counts(star),
+             part_counts(path)],
+            [True, ((0, 2), (1, 3)), None, [((0,), 2)], [((1,), 1), ((2,), 1)]])
+        with self.assertRaises(NotParting) as caught:
+            least_in(fan, (0,), 1, 3)
+        self.assertEqual(caught.exception.way, (1, 2, 3))
+
+
+class TreeExamplesTest(unittest.TestCase):
+
+    def test_trees(self):
+        self.assertEqual(
+            [first_tree(path), tree_count(path), meets(path, ((0, 1), (1, 2))), way_meets(path, ((0, 1), (1, 2)), 0, 3)],
+            [((0, 1), (1, 2)), 1, [(1,), (2,)], [(1,), (2,)]])
+        self.assertEqual(
+            [tree_count(star), trees(star), nth_tree(star, 1), tree_number(star, ((0, 2), (1, 2))), nth_tree(star, 3)],
+            [3, [((0, 1), (0, 2)), ((0, 1), (1, 2)), ((0, 2), (1, 2))], ((0, 1), (1, 2)), 2, None])
+
+    def test_branches_and_exchanges(self):
+        self.assertEqual(
+            [branches(star), fixed_branches(star), fixed_branches(fan), tree_exchanges(star, ((0, 1), (0, 2)))],
+            [[(0, 1), (0, 2), (1, 2)], [], [(0, 1)], [((0, 1), (1, 2)), ((0, 2), (1, 2))]])
+        self.assertEqual(
+            [tree_exchanged(star, ((0, 1), (0, 2)), (0, 1), (1, 2)),
+             tree_row(star, ((0, 1), (0, 2)), ((0, 2), (1, 2)))],
+            [((0, 2), (1, 2)), [((0, 1), (1, 2))]])
+
+    def test_trees_that_are_no_lot_trees(self):
+        tree = ((0, 1), (0, 2), (1, 3))
+        self.assertEqual([is_lot_tree(ring, tree), tree_sum(ring, tree), split_place(ring, tree)], [False, 3, 2])
+        with self.assertRaises(NotLeaving) as caught:
+            first_tree(ring)
+        self.assertEqual(caught.exception.ring, (0, 1, 2, 3))
+        with self.assertRaises(NotTree) as caught:
+            tree_exchanges(path, ((0, 1), (0, 2)))
+        self.assertEqual(caught.exception.place, 2)
 
 
 if __name__ == "__main__":

@@ -9,6 +9,7 @@ import unittest
 FOLDER = os.path.join(os.path.dirname(os.path.dirname(os.path.abspath(__file__))), "leaveorder")
 BUILTINS = """len range enumerate zip min max sum abs sorted reversed int str bool list tuple dict set isinstance ord repr
 any all divmod iter next Exception ValueError TypeError KeyError IndexError LookupError super""".split()
+LIBRARY = {"itertools": {"combinations", "permutations", "product"}, "math": {"comb", "gcd", "lcm"}}
 STATEMENTS = (
     ast.FunctionDef, ast.ClassDef, ast.Assign, ast.AugAssign, ast.If, ast.While, ast.For, ast.Return, ast.Break,
     ast.Continue, ast.Pass, ast.Raise, ast.Expr, ast.ImportFrom,
@@ -33,7 +34,8 @@ class FilesTest(unittest.TestCase):
     def test_names_of_files(self):
         for name in files():
             self.assertRegex(name, r"^(__init__|[a-z][a-z0-9_]*)\.py$")
-        for name in ("__init__.py", "errors.py", "webs.py", "bare_rounds.py"):
+        for name in ("__init__.py", "errors.py", "webs.py", "leaving.py", "bare_rounds.py", "whole_lots.py",
+                     "partings.py", "lot_trees.py"):
             self.assertIn(name, files())
 
     def test_characters_and_sizes(self):
@@ -55,8 +57,8 @@ class FilesTest(unittest.TestCase):
             for node in ast.walk(tree):
                 if isinstance(node, ast.stmt):
                     self.assertIsInstance(node, STATEMENTS, (name, node.lineno))
-                self.assertNotIsInstance(node, (ast.Set, ast.SetComp, ast.Await, ast.Yield, ast.NamedExpr, ast.Div),
-                                         (name, getattr(node, "lineno", 0)))
+                self.assertNotIsInstance(node, (ast.Set, ast.SetComp, ast.GeneratorExp, ast.Await, ast.Yield,
+                                                ast.NamedExpr, ast.Div), (name, getattr(node, "lineno", 0)))
                 self.assertFalse(isinstance(node, ast.Constant) and isinstance(node.value, float), name)
 
     def test_builtins_are_used_and_not_renamed(self):
@@ -78,6 +80,10 @@ class FilesTest(unittest.TestCase):
             needed[name] = []
             for node in told:
                 self.assertIsInstance(node, ast.ImportFrom, name)
+                if node.module in LIBRARY:
+                    self.assertLessEqual({alias.name for alias in node.names}, LIBRARY[node.module], name)
+                    self.assertFalse([alias for alias in node.names if alias.asname], name)
+                    continue
                 self.assertEqual((node.level, node.module.split(".")[0]), (0, "leaveorder"), name)
                 file = node.module.split(".")[1] + ".py"
                 needed[name].append(file)

@@ -1,0 +1,98 @@
+"""[3]: calls end within some seconds for webs of 12 places, too; what is told has at most 3,000 parts."""
+
+import time
+import unittest
+
+from leaveorder import bare_rounds, leaving, lot_trees, partings, webs, whole_lots
+from leaveorder.errors import LeaveError
+from tests.at_hand import pairs, webs_of_twelve
+
+MOST_SECONDS = 2
+
+OF_A_WEB = (
+    webs.pieces, webs.mirrored, webs.web_text, bare_rounds.bare_ring, bare_rounds.least_bare, bare_rounds.rest,
+    bare_rounds.least_stuck, leaving.may_leave, leaving.is_leaving, leaving.first_order, whole_lots.whole_lots,
+    whole_lots.greatest_lot, whole_lots.tied_counts, partings.partings, partings.first_crossing, partings.part_counts,
+    lot_trees.first_tree, lot_trees.tree_count, lot_trees.trees, lot_trees.branches, lot_trees.fixed_branches,
+)
+EVERY = tuple(range(12))
+OF_A_LOT = (webs.is_tied, webs.pieces, webs.inner, bare_rounds.rest_among, leaving.may_leave, leaving.order_ending,
+            whole_lots.is_whole, partings.full_pieces)
+OF_A_TREE = (lot_trees.is_lot_tree, lot_trees.meets, lot_trees.tree_sum, lot_trees.split_place, lot_trees.tree_number,
+             lot_trees.tree_exchanges)
+
+
+def parts(value):
+    """The number of parts of what is told, all in all."""
+    return 1 + sum(parts(part) for part in value) if isinstance(value, (tuple, list)) else 1
+
+
+class TimeTest(unittest.TestCase):
+
+    def asked(self, function, *arguments):
+        """What the function tells, or the error that it raises, within the time."""
+        begun = time.monotonic()
+        try:
+            told = function(*arguments)
+        except LeaveError as error:
+            told = error
+        self.assertLess(time.monotonic() - begun, MOST_SECONDS, (function.__name__, arguments))
+        return told
+
+    def test_webs_lots_and_places(self):
+        for web in webs_of_twelve():
+            for function in OF_A_WEB:
+                self.asked(function, web)
+            for lot in ((), (0, 3, 5, 8, 11), EVERY):
+                for function in OF_A_LOT:
+                    self.asked(function, web, lot)
+                self.asked(partings.is_crossing, web, lot, EVERY[::2])
+                for function in (partings.is_parting, partings.is_least_parting, partings.least_in):
+                    self.asked(function, web, lot, 1, 10)
+            for function in (leaving.later_neighbours, leaving.first_hitch):
+                self.asked(function, web, EVERY)
+            for x, y in pairs(12)[::7]:
+                self.asked(partings.partings_of, web, x, y)
+                self.asked(partings.fewest_parting, web, y, x)
+                self.asked(whole_lots.lots_with, web, x)
+            for tie in web[1][::9]:
+                self.asked(bare_rounds.bare_through, web, tie)
+
+    def test_trees(self):
+        for web in webs_of_twelve():
+            many = len(whole_lots.whole_lots(web))
+            rows = [tuple((at, at + 1) for at in range(many - 1)), tuple((0, at) for at in range(1, many))]
+            rows.append(tuple(sorted((at // 2, at) for at in range(1, many))))
+            if leaving.is_leaving(web):
+                count = lot_trees.tree_count(web)
+                rows += [self.asked(lot_trees.nth_tree, web, number) for number in (0, count // 2, count - 1)]
+            for tree in rows:
+                for function in OF_A_TREE:
+                    self.asked(function, web, tree)
+                self.asked(lot_trees.way_meets, web, tree, 2, 9)
+                self.asked(lot_trees.tree_exchanged, web, tree, (0, 1), (0, 1))
+                for other in rows:
+                    told = self.asked(lot_trees.tree_row, web, tree, other)
+                    if type(told) is list:
+                        self.assertLessEqual(parts(told), 3000)
+                    self.asked(lot_trees.is_tree_row, web, tree, other, told)
+
+    def test_a_long_row_of_exchanges(self):
+        star = (12, tuple((0, x) for x in range(1, 12)))
+        tree, other = lot_trees.first_tree(star), lot_trees.nth_tree(star, 11 ** 9 - 1)
+        there, back = lot_trees.tree_row(star, tree, other), lot_trees.tree_row(star, other, tree)
+        row = (there + back) * 20
+        self.assertGreater(parts(row), 2000)
+        self.assertIs(self.asked(lot_trees.is_tree_row, star, tree, tree, row), True)
+
+    def test_free_results_have_few_parts(self):
+        for web in webs_of_twelve():
+            for function, arguments in ((bare_rounds.bare_ring, ()), (leaving.first_order, ()),
+                                        (partings.least_in, ((2, 3, 4, 5), 0, 11)), (partings.least_in, ((), 0, 11))):
+                told = self.asked(function, web, *arguments)
+                value = list(vars(told).values()) if isinstance(told, LeaveError) else told
+                self.assertLessEqual(parts(value), 3000)
+
+
+if __name__ == "__main__":
+    unittest.main()
