@@ -56,8 +56,8 @@ def whole_masks(near):
     """The list of the masks of all whole lots, in no told sequence."""
     wholes = [0]
     for place, others in enumerate(near):
-        # Of the web of the places up to this one a whole lot with it is, without it, what its neighbours have of
-        # a whole lot of those ahead; those of them that it is not tied with as a whole stay.
+        # The place comes to the web of those ahead of it: a whole lot stays one unless all of it is tied with the
+        # place; and the place, with what is tied with it of a whole lot, makes the new ones.
         grown = [whole & others | 1 << place for whole in wholes]
         wholes = [whole for whole in wholes if whole & ~others] + largest(grown)
     return wholes
