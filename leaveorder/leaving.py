@@ -4,7 +4,7 @@ from leaveorder.bare_rounds import bare_ring, rest_mask
 from leaveorder.checks import check_lot, check_row, check_web
 from leaveorder.errors import NotLeaving, NotTied
 from leaveorder.forms import is_row_form
-from leaveorder.masks import (first_untied, full_mask, hitch_of, later_masks, leavers, least_of, lot_of, mask_of,
+from leaveorder.masks import (first_untied, full_mask, hitch_of, later_masks, leavers, leaving_row, lot_of, mask_of,
                               near_masks)
 
 
@@ -39,12 +39,8 @@ def order_ending(web, lot):
     near = near_masks(web)
     check_tied(near, lot)
     check_leaving(web)
-    left, held = full_mask(web), mask_of(lot)
-    order = []
-    while left != held:
-        # No choice is wrong, and while others are there one of them may leave: so the least one goes each time.
-        order.append(least_of(leavers(near, left) & ~held))
-        left = left & ~(1 << order[-1])
+    # No choice is wrong, and while others than those of a tied lot are there one of them may leave.
+    order = leaving_row(near, full_mask(web), mask_of(lot))
     return (*order, *lot)
 
 

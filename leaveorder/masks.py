@@ -56,6 +56,37 @@ def leavers(near, mask):
     return mask_of([place for place in lot_of(mask) if is_tied_mask(near, near[place] & mask)])
 
 
+def leaving_row(near, mask, held):
+    """The list of the places in the sequence in which they go if the least one that may and is not held goes each time.
+
+    It begins with all places of the mask and ends when no such one is left.
+    """
+    row = []
+    free = leavers(near, mask) & ~held
+    while free:
+        row.append(least_of(free))
+        mask = mask & ~(1 << row[-1])
+        free = leavers(near, mask) & ~held
+    return row
+
+
+def tied_table(near):
+    """The list that has, for each mask, whether it is tied."""
+    table = [True]
+    for others in near:
+        # What is added are the masks with this place and none above it.
+        table = table + [told and mask & ~others == 0 for mask, told in enumerate(table)]
+    return table
+
+
+def leaver_table(web):
+    """The list that has, for each mask, the mask of the places that may leave when its places have gone."""
+    near, full = near_masks(web), full_mask(web)
+    tied = tied_table(near)
+    return [mask_of([place for place in lot_of(full & ~gone) if tied[near[place] & ~gone]])
+            for gone in range(full + 1)]
+
+
 def later_masks(near, row):
     """The list that has, for each place of the row, the mask of its neighbours behind it there."""
     return [near[place] & mask_of(row[at:]) for at, place in enumerate(row)]
@@ -85,6 +116,11 @@ def piece_with(near, mask, place):
         piece |= fresh
         fresh = around(near, piece) & mask
     return piece
+
+
+def is_joined_mask(near, mask):
+    """Whether the mask has a place, and from each of its places one comes to each other one along ties between them."""
+    return mask != 0 and piece_with(near, mask, least_of(mask)) == mask
 
 
 def pieces_of(near, mask):

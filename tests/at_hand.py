@@ -138,3 +138,41 @@ ODD_VALUES = [
     (0, None), ([],), ([0], [1]), (0, [1]), (BIG,), (0, BIG), (-1, 0), (-BIG, 1),
     deep(tuple), deep(list), (deep(tuple),), (0, deep(list)), tuple([0] * 3000), [0] * 3000, tuple(range(3000)),
 ]
+
+
+def all_hosts(count):
+    """All hosts of so many spots."""
+    return [(count, ties) for ties in combinations(pairs(count), count - 1) if reaches_all(count, ties)]
+
+
+def reaches_all(count, ties):
+    reached = {0}
+    for _ in range(count):
+        reached |= {spot for tie in ties for spot in tie if set(tie) & reached}
+    return len(reached) == count
+
+
+def some_hosts(count, many, seed):
+    """So many hosts of the spots, the same ones at each run."""
+    chance = random.Random(seed * 1000 + count)
+    hosts = []
+    for _ in range(many):
+        name = list(range(count))
+        chance.shuffle(name)
+        ties = [tuple(sorted((name[spot], name[chance.randrange(spot)]))) for spot in range(1, count)]
+        hosts.append((count, tuple(sorted(ties))))
+    return hosts
+
+
+def some_spread(host, places, seed):
+    """A spread of the host of so many lots, the same one at each run."""
+    chance = random.Random(repr((host, places, seed)))
+    lots_told = []
+    for _ in range(places):
+        lot = {chance.randrange(host[0])}
+        for _ in range(chance.randrange(2 * host[0])):
+            tie = chance.choice(host[1]) if host[1] else (0, 0)
+            if set(tie) & lot:
+                lot |= set(tie)
+        lots_told.append(tuple(sorted(lot)))
+    return tuple(lots_told)

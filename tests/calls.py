@@ -1,15 +1,9 @@
-"""Each function of the program with right arguments, and wrong ones for each parameter."""
+"""Each function of the program with right arguments."""
 
-from leaveorder import bare_rounds, errors, leaving, lot_trees, partings, webs, whole_lots
-from tests.at_hand import BIG, ODD_VALUES, deep
+from leaveorder import bare_rounds, leaving, lot_trees, orders, partings, starts, subtrees, webs, whole_lots
+from tests.wrong import FAN, HOST, HOUSE, OTHER_TREE, SPREAD, TREE, TWIG
 
-FAN = (4, ((0, 1), (0, 2), (0, 3), (1, 2), (2, 3)))
-HOUSE = (5, ((0, 1), (0, 3), (0, 4), (1, 2), (1, 4), (2, 3)))
-# A leaving web with four whole lots, three branches of one meet and one of another meet.
-TWIG = (5, ((0, 1), (0, 2), (0, 3), (3, 4)))
-TREE, OTHER_TREE = ((0, 1), (0, 2), (2, 3)), ((0, 2), (1, 2), (2, 3))
-
-MODULES = (webs, leaving, bare_rounds, whole_lots, partings, lot_trees)
+MODULES = (webs, leaving, bare_rounds, whole_lots, partings, lot_trees, subtrees, orders, starts)
 
 # Each function, its parameters and right arguments: all webs have five places, but for the last one of beside.
 CALLS = [
@@ -74,77 +68,36 @@ CALLS = [
     (lot_trees.tree_exchanged, ("web", "tree", "branch", "other_branch"), (TWIG, TREE, (0, 1), (1, 2))),
     (lot_trees.tree_row, ("web", "tree", "other_tree"), (TWIG, TREE, OTHER_TREE)),
     (lot_trees.is_tree_row, ("web", "tree", "other_tree", "value"), (TWIG, TREE, OTHER_TREE, [((0, 1), (1, 2))])),
+    (subtrees.is_spread, ("host", "value"), (HOST, SPREAD)),
+    (subtrees.web_of_spread, ("host", "spread"), (HOST, SPREAD)),
+    (subtrees.spread_of, ("web",), (TWIG,)),
+    (subtrees.is_spread_of, ("web", "value"), (TWIG, (HOST, SPREAD))),
+    (subtrees.common_spots, ("host", "spread", "lot"), (HOST, SPREAD, (0, 1, 4))),
+    (subtrees.spanned, ("host", "lot"), (HOST, (0, 4))),
+    (subtrees.across, ("host", "spread", "tie"), (HOST, SPREAD, (0, 1))),
+    (subtrees.beyond, ("host", "spread", "tie"), (HOST, SPREAD, (1, 3))),
+    (subtrees.order_from, ("host", "spread", "spot"), (HOST, SPREAD, 3)),
+    (subtrees.trimmed, ("host", "spread"), (HOST, SPREAD)),
+    (orders.order_count, ("web",), (TWIG,)),
+    (orders.nth_order, ("web", "number"), (TWIG, 7)),
+    (orders.order_number, ("web", "order"), (TWIG, (1, 2, 0, 3, 4))),
+    (orders.next_order, ("web", "order"), (TWIG, (1, 2, 0, 3, 4))),
+    (orders.index_counts, ("web", "place"), (TWIG, 3)),
+    (orders.ahead_count, ("web", "place", "other_place"), (TWIG, 3, 0)),
+    (starts.is_start, ("web", "lot"), (TWIG, (1, 4))),
+    (starts.start_count, ("web",), (TWIG,)),
+    (starts.starts, ("web",), (TWIG,)),
+    (starts.stay_over, ("web", "lot"), (TWIG, (1, 4))),
+    (starts.free_in, ("web", "lot"), (TWIG, (1, 4))),
+    (starts.order_staying, ("web", "lot"), (TWIG, (0, 1, 3))),
 ]
-ANY_VALUE = [(webs.is_web, ("value",), (HOUSE,)), (webs.web_told, ("text",), ("e:ab,de",))]
+ANY_VALUE = [(webs.is_web, ("value",), (HOUSE,)), (webs.web_told, ("text",), ("e:ab,de",)),
+             (subtrees.is_host, ("value",), (HOST,))]
 
 # What tells a list; each of its entries is made of tuples, lots and integers alone.
 LISTS = (
     webs.pieces, bare_rounds.bare_rings, leaving.later_neighbours, whole_lots.whole_lots, whole_lots.lots_with,
     partings.partings_of, partings.partings, partings.full_pieces, partings.part_counts, lot_trees.meets,
     lot_trees.way_meets, lot_trees.trees, lot_trees.branches, lot_trees.fixed_branches, lot_trees.tree_exchanges,
-    lot_trees.tree_row,
+    lot_trees.tree_row, orders.index_counts, starts.starts,
 )
-
-ERRORS = {
-    "web": errors.InvalidWeb, "other_web": errors.InvalidWeb, "place": errors.InvalidPlace,
-    "other_place": errors.InvalidPlace, "tie": errors.InvalidTie, "lot": errors.InvalidLot,
-    "other_lot": errors.InvalidLot, "row": errors.InvalidRow, "order": errors.InvalidRow,
-    "number": errors.InvalidCount, "tree": errors.InvalidTree, "other_tree": errors.InvalidTree,
-    "branch": errors.InvalidBranch, "other_branch": errors.InvalidBranch,
-}
-
-WRONG_WEBS = ODD_VALUES + [
-    (), (5,), 5, (5, [], ()), [5, ()], (5, []), (5, None), (0, ()), (13, ()), (True, ()), ("5", ()), (None, ()),
-    (BIG, ()), (5, ((1, 0),)), (5, ((0, 0),)), (5, ((0, 5),)), (5, ((0, 1), (0, 1))), (5, ((0, 2), (0, 1))),
-    (5, ([0, 1],)), (5, ((0, True),)), (5, ((0, BIG),)), (5, (deep(tuple),)), (5, deep(list)), "e:ab",
-]
-WRONG_PLACES = ODD_VALUES + [5, (0,), "2", (2,), [2], HOUSE]
-WRONG_LOTS = ODD_VALUES + [
-    (1, 0), (0, 0), (0, 5), (0, 1, 1), [0, 2], (0, True), (0, (1,)), (0, 2, None), (0, 1, 2, 3, 4, 5), HOUSE, 0,
-]
-WRONG_ROWS = ODD_VALUES + [
-    (), (0,), (0, 1, 2, 3, 4, 5), (0, 1, 2, 3, 3), (0, 1, 2, 3, 5), (-1, 0, 1, 2, 3), (False, 1, 2, 3, 4),
-    (0, True, 2, 3, 4), [0, 1, 2, 3, 4], [3, 2, 1, 0], (0, 1, 2, 3, BIG), (0, 1, 2, 3, (4,)), (0, 1, 2, 3, "e"), 0,
-    (0, 1, 2, 3, None), (0, 1, 2, 3, deep(list)), HOUSE, (1, 2, 3), (0, 1, 4), (0, 1, 2, 3, 4, 0),
-]
-WRONG_TIES = ODD_VALUES + [
-    (0, 2), (2, 4), (1, 0), (3, 0), (0, 0), [0, 1], (0, True), (False, 1), (0, 1, 4), (0,), (), (4, 5), 0, HOUSE,
-    ((0, 1),), (0, 5), (True, 2), (1, 4, None),
-]
-# Rows of all places of the twig that are no leaving order.
-NO_ORDERS = [(0, 1, 2, 3, 4), (1, 0, 2, 3, 4), (1, 3, 0, 2, 4), (2, 1, 3, 4, 0), (4, 1, 0, 3, 2)]
-NUMBERS = (12, 13, BIG)
-WRONG_NUMBERS = [value for value in ODD_VALUES if value not in NUMBERS or value is True] + [
-    (), (1,), "1", [1], -2, HOUSE, TREE]
-WRONG_TREES = ODD_VALUES + [
-    (), 0, [], [(0, 1), (0, 2), (2, 3)], ((0, 1), (0, 2)), ((0, 1), (0, 2), (1, 2)), ((0, 2), (0, 1), (2, 3)),
-    ((0, 1), (0, 1), (2, 3)), ((0, 1), (0, 2), (0, 3), (1, 2)), ((0, 1), (0, 2), (0, 4)), ((0, 1), (0, 2), (3, 2)),
-    ((1, 0), (0, 2), (2, 3)), ((0, 0), (0, 2), (2, 3)), ((0, 1), (0, 2), [2, 3]), ((0, 1), (0, 2), (2, 3, 3)),
-    ((0, 1), (0, 2), (2,)), ((False, 1), (0, 2), (2, 3)), ((0, True), (0, 2), (2, 3)), ((0, 1), (0, 2), (2, BIG)),
-    ((-1, 1), (0, 2), (2, 3)), ((0, 1), (0, 2), (2, None)), ((0, 1), (0, 2), ("2", "3")), ((0, 1), (0, 2), None),
-    ((0, 1), (0, 2), deep(tuple)), ((0, 1), (0, 2), deep(list)), (TREE,), HOUSE, ((0, 1), (0, 2), (2, 3), (2, 3)),
-    "abacde", ((0, 1), (2, 3)), ((0, 1), (1, 2), (2, 3), (3, 4)), ((0, 1), (0, 2), (1, 2), (2, 3)),
-]
-WRONG_BRANCHES = ODD_VALUES + [
-    (), 0, (0,), (0, 4), (3, 4), (1, 0), (0, 0), (3, 3), [0, 1], (0, True), (False, 1), (0, 1, 2), (-1, 2), (0, BIG),
-    (0, None), ("0", "1"), ((0, 1),), TREE, HOUSE, (0, (1,)), (deep(list), 1),
-]
-WRONG = {
-    "web": WRONG_WEBS, "other_web": WRONG_WEBS, "place": WRONG_PLACES, "other_place": WRONG_PLACES, "tie": WRONG_TIES,
-    "lot": WRONG_LOTS, "other_lot": WRONG_LOTS, "row": WRONG_ROWS, "order": WRONG_ROWS + NO_ORDERS,
-    "number": WRONG_NUMBERS, "tree": WRONG_TREES, "other_tree": WRONG_TREES, "branch": WRONG_BRANCHES,
-    "other_branch": WRONG_BRANCHES,
-}
-ROUNDS = (bare_rounds.ring_told, bare_rounds.ties_across, bare_rounds.bared)
-
-
-def wrong_values(function, names, right, name):
-    """Wrong arguments for the parameter of the function, if all else is as in the list of calls."""
-    if name == "lot" and function is webs.inner:
-        return WRONG_LOTS + [()]
-    if name == "other_place":
-        return WRONG_PLACES + [right[names.index("place")]]
-    if name == "row":
-        # A row of four places is right for a round; one that does not go round is right for the others.
-        return WRONG_ROWS + ([(0, 1, 2, 4), (0, 1, 2, 3, 4), (0, 1, 3, 4)] if function in ROUNDS else [(0, 1, 2, 3)])
-    return WRONG[name]

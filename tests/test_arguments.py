@@ -5,9 +5,10 @@ import inspect
 import unittest
 from itertools import combinations
 
-from leaveorder import bare_rounds, errors, leaving, lot_trees, partings, webs, whole_lots
+from leaveorder import bare_rounds, errors, leaving, lot_trees, orders, partings, starts, subtrees, webs, whole_lots
 from tests.at_hand import BIG, ODD_VALUES, bare_web, deep, full_web, ring_web
-from tests.calls import (ANY_VALUE, CALLS, ERRORS, FAN, HOUSE, LISTS, MODULES, OTHER_TREE, TREE, TWIG, WRONG_WEBS,
+from tests.calls import ANY_VALUE, CALLS, LISTS, MODULES
+from tests.wrong import (ERRORS, FAN, HOST, HOUSE, OTHER_TREE, SPREAD, TREE, TWIG, WRONG_HOSTS, WRONG_WEBS,
                          wrong_values)
 
 # Joining trees of the twig's whole lots that are no lot trees, as the places 3 and 0 tell.
@@ -46,7 +47,7 @@ class WrongArgumentsTest(unittest.TestCase):
     def test_all_arguments_wrong(self):
         for function, names, _ in CALLS:
             for wrong in (None, True, "a", [], BIG, deep(list)):
-                self.assertIs(self.raised(function, [wrong] * len(names)), errors.InvalidWeb)
+                self.assertIs(self.raised(function, [wrong] * len(names)), ERRORS[names[0]])
 
     def test_a_wrong_web_beside_any_value(self):
         for wrong in WRONG_WEBS:
@@ -54,6 +55,10 @@ class WrongArgumentsTest(unittest.TestCase):
                 for function in (bare_rounds.is_bare, leaving.is_order, lot_trees.is_lot_tree):
                     self.assertIs(self.raised(function, [wrong, value]), errors.InvalidWeb)
                 self.assertIs(self.raised(lot_trees.is_tree_row, [wrong, TREE, TREE, value]), errors.InvalidWeb)
+                self.assertIs(self.raised(subtrees.is_spread_of, [wrong, value]), errors.InvalidWeb)
+        for wrong in WRONG_HOSTS:
+            for value in ODD_VALUES[::6]:
+                self.assertIs(self.raised(subtrees.is_spread, [wrong, value]), errors.InvalidHost)
 
     def test_errors_of_the_parameters_ahead_of_those_of_the_point(self):
         big = bare_web(12)
@@ -94,7 +99,25 @@ class WrongArgumentsTest(unittest.TestCase):
                 (lot_trees.tree_exchanged, (TWIG, TREE, (0, 1), (0, 1)), errors.Refused),
                 (lot_trees.tree_row, (TWIG, NO_TREE, ((0, 1),)), errors.InvalidTree),
                 (lot_trees.tree_row, (TWIG, TREE, NO_TREE), errors.NotTree),
-                (lot_trees.is_tree_row, (TWIG, NO_TREE, ((0, 1),), []), errors.InvalidTree)):
+                (lot_trees.is_tree_row, (TWIG, NO_TREE, ((0, 1),), []), errors.InvalidTree),
+                (subtrees.common_spots, (HOST, SPREAD, ()), errors.InvalidLot),
+                (subtrees.common_spots, (HOST, ((), (0,)), ()), errors.InvalidSpread),
+                (subtrees.common_spots, (HOST, SPREAD[:2], (0, 2)), errors.InvalidLot),
+                (subtrees.spread_of, (big_ring,), errors.NotLeaving),
+                (orders.order_number, (ring, (0, 1, 2, 3)), errors.InvalidRow),
+                (orders.next_order, (ring, (0, 1, 2, 3)), errors.InvalidRow),
+                (orders.ahead_count, (ring, 2, 2), errors.InvalidPlace),
+                (starts.start_count, (ring,), errors.NotLeaving),
+                (starts.starts, (ring,), errors.NotLeaving),
+                (starts.starts, (big_ring,), errors.NotLeaving),
+                (starts.starts, (bare_web(9),), errors.TooMany),
+                (starts.stay_over, (ring, (1, 0)), errors.InvalidLot),
+                (starts.free_in, (ring, (4,)), errors.InvalidLot),
+                (starts.order_staying, (ring, [0]), errors.InvalidLot),
+                (starts.is_start, (ring, [0]), errors.InvalidLot),
+                (starts.stay_over, (ring, ()), errors.NotLeaving),
+                (starts.free_in, (ring, ()), errors.NotLeaving),
+                (starts.order_staying, (ring, (0, 2)), errors.NotLeaving)):
             self.assertIs(self.raised(function, list(arguments)), error, (function.__name__, arguments))
 
     def test_of_two_trees_that_are_none_the_first_one_is_told(self):
@@ -146,6 +169,13 @@ class WrongArgumentsTest(unittest.TestCase):
         self.assertIs(self.raised(lot_trees.tree_exchanged, [TWIG, TREE, Row((0, 1)), (1, 2)]), errors.InvalidBranch)
         self.assertIs(self.raised(lot_trees.tree_exchanged, [TWIG, TREE, (0, 1), (1, Number(2))]), errors.InvalidBranch)
         self.assertIs(lot_trees.is_lot_tree(TWIG, Row(TREE)), False)
+        self.assertIs(subtrees.is_host(Row(HOST)), False)
+        self.assertIs(subtrees.is_spread(HOST, Row(SPREAD)), False)
+        self.assertIs(subtrees.is_spread(HOST, (*SPREAD, Row((0,)))), False)
+        self.assertIs(subtrees.is_spread(HOST, (*SPREAD, (Number(0),))), False)
+        self.assertIs(self.raised(subtrees.order_from, [HOST, SPREAD, Number(0)]), errors.InvalidPlace)
+        self.assertIs(self.raised(orders.order_number, [TWIG, Row((1, 2, 0, 3, 4))]), errors.InvalidRow)
+        self.assertIs(self.raised(starts.stay_over, [TWIG, Row((0,))]), errors.InvalidLot)
 
         class Steps(list):
             pass
@@ -170,7 +200,7 @@ class CallsTest(unittest.TestCase):
         listed = [(function.__module__, function.__name__) for function, _, _ in CALLS + ANY_VALUE]
         self.assertEqual(len(listed), len(set(listed)))
         for name, count in (("webs", 13), ("leaving", 7), ("bare_rounds", 11), ("whole_lots", 6), ("partings", 10),
-                            ("lot_trees", 16)):
+                            ("lot_trees", 16), ("subtrees", 11), ("orders", 6), ("starts", 6)):
             self.assertEqual(len([1 for module, _ in listed if module == "leaveorder." + name]), count, name)
 
     def test_by_name_as_by_position(self):
@@ -193,6 +223,9 @@ class CallsTest(unittest.TestCase):
             leaving.is_order(TWIG, value)
             lot_trees.is_lot_tree(TWIG, value)
             lot_trees.is_tree_row(TWIG, TREE, OTHER_TREE, value)
+            subtrees.is_host(value)
+            subtrees.is_spread(HOST, value)
+            subtrees.is_spread_of(TWIG, value)
             self.assertEqual(repr(value), repr(kept))
 
     def test_lists_are_new(self):
@@ -222,6 +255,7 @@ class CallsTest(unittest.TestCase):
     def test_equal_arguments_equal_results(self):
         for function, _, right in CALLS:
             self.assertEqual(function(*right), function(*copy.deepcopy(right)))
+
 
 def plain(value):
     """Whether the value has only tuples and integers, or is None."""

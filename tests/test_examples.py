@@ -1,4 +1,4 @@
-"""The rows of the document's examples of parts 1 to 4."""
+"""The rows of the document's examples of parts 1 to 6."""
 
 import unittest
 
@@ -9,8 +9,12 @@ from leaveorder.leaving import (first_hitch, first_order, is_order, later_neighb
 from leaveorder.lot_trees import (branches, first_tree, fixed_branches, is_lot_tree, meets, nth_tree, split_place,
                                   tree_count, tree_exchanged, tree_exchanges, tree_number, tree_row, tree_sum, trees,
                                   way_meets)
+from leaveorder.orders import ahead_count, index_counts, next_order, nth_order, order_count, order_number
 from leaveorder.partings import (fewest_parting, first_crossing, full_pieces, is_crossing, is_least_parting, is_parting,
                                  least_in, part_counts, partings, partings_of)
+from leaveorder.starts import free_in, is_start, order_staying, start_count, stay_over
+from leaveorder.subtrees import (across, beyond, common_spots, is_host, is_spread, is_spread_of, order_from, spanned,
+                                 spread_of, trimmed, web_of_spread)
 from leaveorder.webs import is_apart, is_tied, mirrored, neighbours, web_text, web_told
 from leaveorder.whole_lots import greatest_lot, heads, is_whole, lots_with, tied_counts, whole_lots
 
@@ -150,6 +154,48 @@ class TreeExamplesTest(unittest.TestCase):
         with self.assertRaises(NotTree) as caught:
             tree_exchanges(path, ((0, 1), (0, 2)))
         self.assertEqual(caught.exception.place, 2)
+
+
+class SubtreeExamplesTest(unittest.TestCase):
+
+    def test_spreads(self):
+        lots = ((0, 1), (0, 2), (0, 1, 2, 3), (3,), (1,))
+        self.assertEqual(
+            [is_host(star), is_spread(star, lots), is_spread(star, ((1, 2),)), web_text(web_of_spread(star, lots))],
+            [True, True, False, "e:ab,ac,ae,bc,cd,ce"])
+        self.assertEqual(
+            [common_spots(star, lots, (0, 2)), common_spots(star, lots, (3, 4)), spanned(star, (1, 2)),
+             across(star, lots, (0, 1)), beyond(star, lots, (0, 1))],
+            [(0, 1), (), (0, 1, 2), (0, 2), ((1, 3), (4,))])
+        self.assertEqual([order_from(star, lots, 0), order_from(star, lots, 1)], [(3, 4, 0, 1, 2), (3, 1, 0, 2, 4)])
+        host, spread = trimmed(star, lots)
+        self.assertEqual([web_text(host), spread], ["c:ab,ac", ((0, 1), (0,), (0, 1, 2), (2,), (1,))])
+        self.assertEqual(
+            [is_spread_of(web_told("c:ab,bc"), (web_told("b:ab"), ((0,), (0, 1), (1,)))),
+             len(spread_of(web_told("c:ab,bc"))[1])],
+            [True, 3])
+        with self.assertRaises(NotLeaving) as caught:
+            spread_of(web_told("d:ab,ad,bc,cd"))
+        self.assertEqual(caught.exception.ring, (0, 1, 2, 3))
+
+
+class OrderExamplesTest(unittest.TestCase):
+
+    def test_orders_by_number(self):
+        self.assertEqual(
+            [order_count(path), nth_order(path, 0), nth_order(path, 7), nth_order(path, 8),
+             order_number(path, (3, 0, 1, 2))],
+            [8, (0, 1, 2, 3), (3, 2, 1, 0), None, 4])
+        self.assertEqual(
+            [next_order(path, (0, 1, 3, 2)), index_counts(path, 0), ahead_count(path, 0, 3)],
+            [(0, 3, 1, 2), [4, 2, 1, 1], 4])
+
+    def test_starts(self):
+        self.assertEqual(
+            [is_start(path, (0, 3)), is_start(path, (1,)), start_count(path), stay_over(path, (0, 2)),
+             free_in(path, (0, 2)), stay_over(path, ())],
+            [True, False, 11, (0, 1, 2), (0, 2), ()])
+        self.assertIsNone(order_staying(path, (0, 2)))
 
 
 if __name__ == "__main__":

@@ -3,9 +3,9 @@
 import time
 import unittest
 
-from leaveorder import bare_rounds, leaving, lot_trees, partings, webs, whole_lots
+from leaveorder import bare_rounds, leaving, lot_trees, orders, partings, starts, subtrees, webs, whole_lots
 from leaveorder.errors import LeaveError
-from tests.at_hand import pairs, webs_of_twelve
+from tests.at_hand import pairs, path_web, some_hosts, some_spread, star_web, webs_of_twelve
 
 MOST_SECONDS = 2
 
@@ -14,10 +14,12 @@ OF_A_WEB = (
     bare_rounds.least_stuck, leaving.may_leave, leaving.is_leaving, leaving.first_order, whole_lots.whole_lots,
     whole_lots.greatest_lot, whole_lots.tied_counts, partings.partings, partings.first_crossing, partings.part_counts,
     lot_trees.first_tree, lot_trees.tree_count, lot_trees.trees, lot_trees.branches, lot_trees.fixed_branches,
+    subtrees.spread_of, orders.order_count, starts.start_count, starts.starts,
 )
 EVERY = tuple(range(12))
 OF_A_LOT = (webs.is_tied, webs.pieces, webs.inner, bare_rounds.rest_among, leaving.may_leave, leaving.order_ending,
-            whole_lots.is_whole, partings.full_pieces)
+            whole_lots.is_whole, partings.full_pieces, starts.is_start, starts.stay_over, starts.free_in,
+            starts.order_staying)
 OF_A_TREE = (lot_trees.is_lot_tree, lot_trees.meets, lot_trees.tree_sum, lot_trees.split_place, lot_trees.tree_number,
              lot_trees.tree_exchanges)
 
@@ -77,6 +79,29 @@ class TimeTest(unittest.TestCase):
                         self.assertLessEqual(parts(told), 3000)
                     self.asked(lot_trees.is_tree_row, web, tree, other, told)
 
+    def test_orders(self):
+        for web in webs_of_twelve():
+            count = self.asked(orders.order_count, web)
+            for number in (0, count // 2, max(0, count - 1)):
+                order = self.asked(orders.nth_order, web, number)
+                if order is not None:
+                    self.assertEqual(self.asked(orders.order_number, web, order), number)
+                    self.asked(orders.next_order, web, order)
+            self.asked(orders.index_counts, web, 7)
+            self.asked(orders.ahead_count, web, 7, 3)
+
+    def test_hosts(self):
+        for host in [path_web(12), star_web(12), *some_hosts(12, 6, 90)]:
+            for spread in (some_spread(host, 12, 91), tuple((x,) for x in range(12)), (tuple(range(12)),) * 12):
+                for function in (subtrees.is_spread, subtrees.web_of_spread, subtrees.trimmed):
+                    self.asked(function, host, spread)
+                self.asked(subtrees.common_spots, host, spread, EVERY)
+                self.asked(subtrees.order_from, host, spread, 11)
+                for function in (subtrees.across, subtrees.beyond):
+                    self.asked(function, host, spread, host[1][5])
+                self.asked(subtrees.is_spread_of, subtrees.web_of_spread(host, spread), (host, spread))
+            self.asked(subtrees.spanned, host, (0, 4, 11))
+
     def test_a_long_row_of_exchanges(self):
         star = (12, tuple((0, x) for x in range(1, 12)))
         tree, other = lot_trees.first_tree(star), lot_trees.nth_tree(star, 11 ** 9 - 1)
@@ -87,7 +112,7 @@ class TimeTest(unittest.TestCase):
 
     def test_free_results_have_few_parts(self):
         for web in webs_of_twelve():
-            for function, arguments in ((bare_rounds.bare_ring, ()), (leaving.first_order, ()),
+            for function, arguments in ((bare_rounds.bare_ring, ()), (leaving.first_order, ()), (subtrees.spread_of, ()),
                                         (partings.least_in, ((2, 3, 4, 5), 0, 11)), (partings.least_in, ((), 0, 11))):
                 told = self.asked(function, web, *arguments)
                 value = list(vars(told).values()) if isinstance(told, LeaveError) else told

@@ -1,0 +1,87 @@
+"""Wrong arguments for each parameter, and the webs of the right calls."""
+
+from leaveorder import bare_rounds, errors, subtrees, webs
+from tests.at_hand import BIG, ODD_VALUES, deep
+
+FAN = (4, ((0, 1), (0, 2), (0, 3), (1, 2), (2, 3)))
+HOUSE = (5, ((0, 1), (0, 3), (0, 4), (1, 2), (1, 4), (2, 3)))
+# A leaving web with four whole lots, three branches of one meet and one of another meet.
+TWIG = (5, ((0, 1), (0, 2), (0, 3), (3, 4)))
+TREE, OTHER_TREE = ((0, 1), (0, 2), (2, 3)), ((0, 2), (1, 2), (2, 3))
+HOST = (5, ((0, 1), (1, 2), (1, 3), (3, 4)))
+SPREAD = ((0, 1), (1, 2, 3), (3, 4), (4,), (0, 1, 3))
+
+ERRORS = {
+    "web": errors.InvalidWeb, "other_web": errors.InvalidWeb, "place": errors.InvalidPlace,
+    "other_place": errors.InvalidPlace, "tie": errors.InvalidTie, "lot": errors.InvalidLot,
+    "other_lot": errors.InvalidLot, "row": errors.InvalidRow, "order": errors.InvalidRow,
+    "number": errors.InvalidCount, "tree": errors.InvalidTree, "other_tree": errors.InvalidTree,
+    "branch": errors.InvalidBranch, "other_branch": errors.InvalidBranch, "host": errors.InvalidHost,
+    "spread": errors.InvalidSpread, "spot": errors.InvalidPlace,
+}
+
+WRONG_WEBS = ODD_VALUES + [
+    (), (5,), 5, (5, [], ()), [5, ()], (5, []), (5, None), (0, ()), (13, ()), (True, ()), ("5", ()), (None, ()),
+    (BIG, ()), (5, ((1, 0),)), (5, ((0, 0),)), (5, ((0, 5),)), (5, ((0, 1), (0, 1))), (5, ((0, 2), (0, 1))),
+    (5, ([0, 1],)), (5, ((0, True),)), (5, ((0, BIG),)), (5, (deep(tuple),)), (5, deep(list)), "e:ab",
+]
+WRONG_PLACES = ODD_VALUES + [5, (0,), "2", (2,), [2], HOUSE]
+WRONG_LOTS = ODD_VALUES + [
+    (1, 0), (0, 0), (0, 5), (0, 1, 1), [0, 2], (0, True), (0, (1,)), (0, 2, None), (0, 1, 2, 3, 4, 5), HOUSE, 0,
+]
+WRONG_ROWS = ODD_VALUES + [
+    (), (0,), (0, 1, 2, 3, 4, 5), (0, 1, 2, 3, 3), (0, 1, 2, 3, 5), (-1, 0, 1, 2, 3), (False, 1, 2, 3, 4),
+    (0, True, 2, 3, 4), [0, 1, 2, 3, 4], [3, 2, 1, 0], (0, 1, 2, 3, BIG), (0, 1, 2, 3, (4,)), (0, 1, 2, 3, "e"), 0,
+    (0, 1, 2, 3, None), (0, 1, 2, 3, deep(list)), HOUSE, (1, 2, 3), (0, 1, 4), (0, 1, 2, 3, 4, 0),
+]
+WRONG_TIES = ODD_VALUES + [
+    (0, 2), (2, 4), (1, 0), (3, 0), (0, 0), [0, 1], (0, True), (False, 1), (0, 1, 4), (0,), (), (4, 5), 0, HOUSE,
+    ((0, 1),), (0, 5), (True, 2), (1, 4, None),
+]
+# Rows of all places of the twig that are no leaving order.
+NO_ORDERS = [(0, 1, 2, 3, 4), (1, 0, 2, 3, 4), (1, 3, 0, 2, 4), (2, 1, 3, 4, 0), (4, 1, 0, 3, 2)]
+NUMBERS = (12, 13, BIG)
+WRONG_NUMBERS = [value for value in ODD_VALUES if value not in NUMBERS or value is True] + [
+    (), (1,), "1", [1], -2, HOUSE, TREE]
+WRONG_TREES = ODD_VALUES + [
+    (), 0, [], [(0, 1), (0, 2), (2, 3)], ((0, 1), (0, 2)), ((0, 1), (0, 2), (1, 2)), ((0, 2), (0, 1), (2, 3)),
+    ((0, 1), (0, 1), (2, 3)), ((0, 1), (0, 2), (0, 3), (1, 2)), ((0, 1), (0, 2), (0, 4)), ((0, 1), (0, 2), (3, 2)),
+    ((1, 0), (0, 2), (2, 3)), ((0, 0), (0, 2), (2, 3)), ((0, 1), (0, 2), [2, 3]), ((0, 1), (0, 2), (2, 3, 3)),
+    ((0, 1), (0, 2), (2,)), ((False, 1), (0, 2), (2, 3)), ((0, True), (0, 2), (2, 3)), ((0, 1), (0, 2), (2, BIG)),
+    ((-1, 1), (0, 2), (2, 3)), ((0, 1), (0, 2), (2, None)), ((0, 1), (0, 2), ("2", "3")), ((0, 1), (0, 2), None),
+    ((0, 1), (0, 2), deep(tuple)), ((0, 1), (0, 2), deep(list)), (TREE,), HOUSE, ((0, 1), (0, 2), (2, 3), (2, 3)),
+    "abacde", ((0, 1), (2, 3)), ((0, 1), (1, 2), (2, 3), (3, 4)), ((0, 1), (0, 2), (1, 2), (2, 3)),
+]
+WRONG_BRANCHES = ODD_VALUES + [
+    (), 0, (0,), (0, 4), (3, 4), (1, 0), (0, 0), (3, 3), [0, 1], (0, True), (False, 1), (0, 1, 2), (-1, 2), (0, BIG),
+    (0, None), ("0", "1"), ((0, 1),), TREE, HOUSE, (0, (1,)), (deep(list), 1),
+]
+WRONG_HOSTS = WRONG_WEBS + [
+    HOUSE, FAN, (1, ((0, 1),)), (2, ()), (5, TWIG[1][1:]), (5, ((0, 1), (0, 2), (1, 2), (3, 4))), (12, ()), (HOST,),
+    (4, ((0, 1), (0, 3), (1, 2), (2, 3))), (5, [*HOST[1]]), [*HOST], (HOST, SPREAD), (4, HOST[1]), (6, HOST[1]),
+]
+WRONG_SPREADS = ODD_VALUES + [
+    (), 0, [*SPREAD], ((),), (*SPREAD, ()), ((0, 2),), (*SPREAD, (0, 3)), (*SPREAD, (2, 3)), (*SPREAD, (1, 0)),
+    (*SPREAD, (5,)), (*SPREAD, (-1,)), (*SPREAD, (0, 0)), (*SPREAD, [0]), (*SPREAD, 0), (*SPREAD, None), (0, 1),
+    (*SPREAD, (True,)), (*SPREAD, (0, True)), (*SPREAD, (BIG,)), (*SPREAD, "a"), (*SPREAD, deep(tuple)), HOST,
+    ((0,),) * 13, (*SPREAD, *SPREAD, (0,), (1,), (2,)), (HOST, SPREAD), deep(list), "abc", ((0, 4),), ((0, 1, 4),),
+]
+WRONG = {
+    "web": WRONG_WEBS, "other_web": WRONG_WEBS, "place": WRONG_PLACES, "other_place": WRONG_PLACES, "tie": WRONG_TIES,
+    "lot": WRONG_LOTS, "other_lot": WRONG_LOTS, "row": WRONG_ROWS, "order": WRONG_ROWS + NO_ORDERS,
+    "number": WRONG_NUMBERS, "tree": WRONG_TREES, "other_tree": WRONG_TREES, "branch": WRONG_BRANCHES,
+    "other_branch": WRONG_BRANCHES, "host": WRONG_HOSTS, "spread": WRONG_SPREADS, "spot": WRONG_PLACES,
+}
+ROUNDS = (bare_rounds.ring_told, bare_rounds.ties_across, bare_rounds.bared)
+
+
+def wrong_values(function, names, right, name):
+    """Wrong arguments for the parameter of the function, if all else is as in the list of calls."""
+    if name == "lot" and function in (webs.inner, subtrees.common_spots):
+        return WRONG_LOTS + [()]
+    if name == "other_place":
+        return WRONG_PLACES + [right[names.index("place")]]
+    if name == "row":
+        # A row of four places is right for a round; one that does not go round is right for the others.
+        return WRONG_ROWS + ([(0, 1, 2, 4), (0, 1, 2, 3, 4), (0, 1, 3, 4)] if function in ROUNDS else [(0, 1, 2, 3)])
+    return WRONG[name]
