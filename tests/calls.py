@@ -1,9 +1,13 @@
 """Each function of the program with right arguments."""
 
-from leaveorder import bare_rounds, leaving, lot_trees, orders, partings, starts, subtrees, webs, whole_lots
-from tests.wrong import FAN, HOST, HOUSE, OTHER_TREE, SPREAD, TREE, TWIG
+from leaveorder import (bare_rounds, covers, dyes, fillings, leaving, lot_trees, orders, partings, starts, subtrees,
+                        swaps, webs, whole_lots)
+from tests.wrong import DYEING, FAN, HOST, HOUSE, ORDER, OTHER_TREE, SPREAD, TREE, TWIG
 
-MODULES = (webs, leaving, bare_rounds, whole_lots, partings, lot_trees, subtrees, orders, starts)
+MODULES = (webs, leaving, bare_rounds, whole_lots, partings, lot_trees, subtrees, orders, starts, swaps, dyes, covers,
+           fillings)
+OTHER_DYEING, OTHER_ORDER = (1, 0, 0, 2, 0), (4, 2, 1, 3, 0)
+WEIGHTS = (3, 0, 1000000, 7, 2)
 
 # Each function, its parameters and right arguments: all webs have five places, but for the last one of beside.
 CALLS = [
@@ -90,6 +94,49 @@ CALLS = [
     (starts.stay_over, ("web", "lot"), (TWIG, (1, 4))),
     (starts.free_in, ("web", "lot"), (TWIG, (1, 4))),
     (starts.order_staying, ("web", "lot"), (TWIG, (0, 1, 3))),
+    (swaps.swaps_of, ("web", "order"), (TWIG, ORDER)),
+    (swaps.swapped, ("web", "order", "number"), (TWIG, ORDER, 0)),
+    (swaps.fewest_swaps, ("web", "order", "other_order"), (TWIG, ORDER, OTHER_ORDER)),
+    (swaps.swap_row, ("web", "order", "other_order"), (TWIG, ORDER, OTHER_ORDER)),
+    (swaps.is_swap_row, ("web", "order", "other_order", "value"), (TWIG, ORDER, OTHER_ORDER, [0, 3, 2, 1, 0, 3])),
+    (dyes.is_dyeing, ("web", "dyes", "value"), (TWIG, 3, DYEING)),
+    (dyes.dyeing_count, ("web", "dyes"), (TWIG, 3)),
+    (dyes.fewest_dyes, ("web",), (TWIG,)),
+    (dyes.later_counts, ("web",), (TWIG,)),
+    (dyes.direction_count, ("web",), (TWIG,)),
+    (dyes.dyed_back, ("web", "row"), (TWIG, ORDER)),
+    (dyes.first_dyeing, ("web", "dyes"), (TWIG, 3)),
+    (dyes.dyeing_number, ("web", "dyes", "dyeing"), (TWIG, 3, DYEING)),
+    (dyes.nth_dyeing, ("web", "dyes", "number"), (TWIG, 3, 7)),
+    (dyes.exchanged, ("web", "dyes", "dyeing", "place", "dye"), (TWIG, 3, DYEING, 3, 2)),
+    (dyes.exchange_row, ("web", "dyes", "dyeing", "other_dyeing"), (TWIG, 3, DYEING, OTHER_DYEING)),
+    (dyes.is_exchange_row, ("web", "dyes", "dyeing", "other_dyeing", "value"), (TWIG, 3, DYEING, DYEING, [])),
+    (covers.apart_counts, ("web",), (HOUSE,)),
+    (covers.most_apart, ("web",), (HOUSE,)),
+    (covers.nth_apart, ("web", "number"), (HOUSE, 6)),
+    (covers.apart_number, ("web", "lot"), (HOUSE, (1, 3))),
+    (covers.heaviest_apart, ("web", "weights"), (HOUSE, WEIGHTS)),
+    (covers.is_cover, ("web", "value"), (TWIG, (0, 1, 3))),
+    (covers.is_apart_paper, ("web", "value"), (TWIG, ((1, 2, 4), (0, 1, 3)))),
+    (covers.is_weight_paper, ("web", "weights", "value"), (TWIG, WEIGHTS, ((2, 3), (3, 1000000, 0, 4)))),
+    (covers.apart_paper, ("web",), (TWIG,)),
+    (covers.weight_paper, ("web", "weights"), (TWIG, WEIGHTS)),
+    (covers.apart_along, ("web", "row"), (TWIG, ORDER)),
+    (covers.fewest_cover, ("web",), (TWIG,)),
+    (fillings.filled, ("web", "missing"), (HOUSE, ((0, 2),))),
+    (fillings.is_filling, ("web", "missing"), (HOUSE, ((0, 2),))),
+    (fillings.is_least_filling, ("web", "value"), (HOUSE, ((0, 2),))),
+    (fillings.spare_ties, ("web", "missing"), (HOUSE, ((0, 2), (2, 4)))),
+    (fillings.least_within, ("web", "missing"), (HOUSE, ((0, 2), (2, 4)))),
+    (fillings.filling_by, ("web", "row"), (HOUSE, (4, 2, 0, 1, 3))),
+    (fillings.row_for, ("web", "missing"), (HOUSE, ((0, 2),))),
+    (fillings.least_fillings, ("web",), (HOUSE,)),
+    (fillings.fewest_count, ("web",), (HOUSE,)),
+    (fillings.fewest_filling, ("web",), (HOUSE,)),
+    (fillings.is_calm, ("web", "value"), (HOUSE, ((0, 1),))),
+    (fillings.is_greatest_calm, ("web", "value"), (HOUSE, ((0, 1), (0, 2)))),
+    (fillings.filling_by_lots, ("web", "lots"), (HOUSE, ((0, 2), (3,)))),
+    (fillings.lots_of_filling, ("web", "missing"), (HOUSE, ((0, 2),))),
 ]
 ANY_VALUE = [(webs.is_web, ("value",), (HOUSE,)), (webs.web_told, ("text",), ("e:ab,de",)),
              (subtrees.is_host, ("value",), (HOST,))]
@@ -99,5 +146,6 @@ LISTS = (
     webs.pieces, bare_rounds.bare_rings, leaving.later_neighbours, whole_lots.whole_lots, whole_lots.lots_with,
     partings.partings_of, partings.partings, partings.full_pieces, partings.part_counts, lot_trees.meets,
     lot_trees.way_meets, lot_trees.trees, lot_trees.branches, lot_trees.fixed_branches, lot_trees.tree_exchanges,
-    lot_trees.tree_row, orders.index_counts, starts.starts,
+    lot_trees.tree_row, orders.index_counts, starts.starts, swaps.swaps_of, swaps.swap_row,
+    dyes.exchange_row, covers.apart_counts, fillings.spare_ties, fillings.least_fillings,
 )

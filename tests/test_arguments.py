@@ -5,11 +5,12 @@ import inspect
 import unittest
 from itertools import combinations
 
-from leaveorder import bare_rounds, errors, leaving, lot_trees, orders, partings, starts, subtrees, webs, whole_lots
+from leaveorder import (bare_rounds, covers, dyes, errors, fillings, leaving, lot_trees, orders, partings, starts,
+                        subtrees, swaps, webs, whole_lots)
 from tests.at_hand import BIG, ODD_VALUES, bare_web, deep, full_web, ring_web
 from tests.calls import ANY_VALUE, CALLS, LISTS, MODULES
-from tests.wrong import (ERRORS, FAN, HOST, HOUSE, OTHER_TREE, SPREAD, TREE, TWIG, WRONG_HOSTS, WRONG_WEBS,
-                         wrong_values)
+from tests.wrong import (DYEING, ERRORS, FAN, HOST, HOUSE, ORDER, OTHER_TREE, SPREAD, TREE, TWIG, WRONG_HOSTS,
+                         WRONG_WEBS, wrong_values)
 
 # Joining trees of the twig's whole lots that are no lot trees, as the places 3 and 0 tell.
 NO_TREE, OTHER_NO_TREE = ((0, 1), (0, 2), (0, 3)), ((0, 3), (1, 3), (2, 3))
@@ -117,7 +118,41 @@ class WrongArgumentsTest(unittest.TestCase):
                 (starts.is_start, (ring, [0]), errors.InvalidLot),
                 (starts.stay_over, (ring, ()), errors.NotLeaving),
                 (starts.free_in, (ring, ()), errors.NotLeaving),
-                (starts.order_staying, (ring, (0, 2)), errors.NotLeaving)):
+                (starts.order_staying, (ring, (0, 2)), errors.NotLeaving),
+                (swaps.swapped, (TWIG, ORDER, 4), errors.Refused),
+                (swaps.swapped, (TWIG, ORDER, BIG), errors.Refused),
+                (swaps.swapped, (TWIG, ORDER, 1), errors.Refused),
+                (swaps.swapped, (TWIG, (0, 1, 2, 3, 4), -1), errors.InvalidRow),
+                (swaps.fewest_swaps, (ring, (0, 1, 2, 3), (0, 1, 2, 3)), errors.InvalidRow),
+                (swaps.is_swap_row, (ring, (0, 1, 2, 3), (0, 1, 2, 3), []), errors.InvalidRow),
+                (dyes.dyed_back, (ring, (0, 1, 2, 3)), errors.InvalidRow),
+                (dyes.dyeing_count, (ring, 1001), errors.InvalidCount),
+                (dyes.dyeing_count, (ring, 0), errors.NotLeaving),
+                (dyes.first_dyeing, (ring, 0), errors.NotLeaving),
+                (dyes.nth_dyeing, (ring, 2, -1), errors.InvalidCount),
+                (dyes.nth_dyeing, (ring, 0, BIG), errors.NotLeaving),
+                (dyes.dyeing_number, (ring, 2, (0, 0, 1, 1)), errors.InvalidDyeing),
+                (dyes.dyeing_number, (ring, 2, (0, 1, 0, 1)), errors.NotLeaving),
+                (dyes.exchanged, (ring, 2, (0, 1, 0, 1), 4, 2), errors.InvalidPlace),
+                (dyes.exchanged, (ring, 2, (0, 1, 0, 1), 1, 1), errors.InvalidDye),
+                (dyes.exchanged, (ring, 2, (0, 1, 0, 1), 1, 0), errors.NotLeaving),
+                (dyes.exchange_row, (ring, 2, (0, 1, 0, 1), (0, 1, 0, 0)), errors.InvalidDyeing),
+                (dyes.exchange_row, (ring, 2, (0, 1, 0, 1), (0, 1, 0, 1)), errors.NotLeaving),
+                (dyes.is_exchange_row, (ring, 2, (0, 1, 0, 1), (0, 1, 0, 1), None), errors.NotLeaving),
+                (dyes.is_exchange_row, (ring, 2, (0, 1, 0, 1), (0, 1, 0, 2), None), errors.InvalidDyeing),
+                (dyes.dyeing_number, (TWIG, 0, ()), errors.InvalidDyeing),
+                (covers.apart_along, (ring, (0, 1, 2, 3)), errors.InvalidRow),
+                (covers.weight_paper, (ring, (0, 0, 0, -1)), errors.InvalidWeights),
+                (covers.weight_paper, (ring, (0, 0, 0, 0)), errors.NotLeaving),
+                (covers.apart_number, (ring, (0, 1, 4)), errors.InvalidLot),
+                (covers.apart_number, (ring, (0, 1)), errors.NotApart),
+                (fillings.spare_ties, (ring, ((0, 1),)), errors.InvalidTies),
+                (fillings.spare_ties, (ring, ()), errors.NotFilling),
+                (fillings.least_within, (ring, ()), errors.NotFilling),
+                (fillings.row_for, (ring, ()), errors.NotFilling),
+                (fillings.lots_of_filling, (ring, ()), errors.NotFilling),
+                (fillings.least_fillings, (bare_web(8),), errors.TooMany),
+                (fillings.least_fillings, ((8, []),), errors.InvalidWeb)):
             self.assertIs(self.raised(function, list(arguments)), error, (function.__name__, arguments))
 
     def test_of_two_trees_that_are_none_the_first_one_is_told(self):
@@ -176,6 +211,15 @@ class WrongArgumentsTest(unittest.TestCase):
         self.assertIs(self.raised(subtrees.order_from, [HOST, SPREAD, Number(0)]), errors.InvalidPlace)
         self.assertIs(self.raised(orders.order_number, [TWIG, Row((1, 2, 0, 3, 4))]), errors.InvalidRow)
         self.assertIs(self.raised(starts.stay_over, [TWIG, Row((0,))]), errors.InvalidLot)
+        self.assertIs(self.raised(dyes.dyeing_count, [TWIG, Number(3)]), errors.InvalidCount)
+        self.assertIs(self.raised(dyes.exchanged, [TWIG, 3, DYEING, 0, Number(1)]), errors.InvalidDye)
+        self.assertIs(self.raised(dyes.dyeing_number, [TWIG, 3, Row(DYEING)]), errors.InvalidDyeing)
+        self.assertIs(self.raised(covers.heaviest_apart, [TWIG, Row((0,) * 5)]), errors.InvalidWeights)
+        self.assertIs(self.raised(fillings.filled, [HOUSE, Row(((0, 2),))]), errors.InvalidTies)
+        self.assertIs(self.raised(fillings.filled, [HOUSE, (Row((0, 2)),)]), errors.InvalidTies)
+        self.assertIs(self.raised(fillings.filling_by_lots, [HOUSE, (Row((0, 2)),)]), errors.InvalidLot)
+        self.assertIs(fillings.is_calm(HOUSE, Row(((0, 1),))), False)
+        self.assertIs(covers.is_cover(TWIG, Row((0, 1, 2, 3))), False)
 
         class Steps(list):
             pass
@@ -183,6 +227,9 @@ class WrongArgumentsTest(unittest.TestCase):
         self.assertIs(lot_trees.is_tree_row(TWIG, TREE, TREE, []), True)
         self.assertIs(lot_trees.is_tree_row(TWIG, TREE, TREE, Steps()), False)
         self.assertIs(lot_trees.is_tree_row(TWIG, TREE, OTHER_TREE, [Row(((0, 1), (1, 2)))]), False)
+        self.assertIs(swaps.is_swap_row(TWIG, ORDER, ORDER, Steps()), False)
+        self.assertIs(swaps.is_swap_row(TWIG, ORDER, (2, 1, 0, 3, 4), [Number(0)]), False)
+        self.assertIs(dyes.is_exchange_row(TWIG, 3, DYEING, DYEING, Steps()), False)
 
 
 class CallsTest(unittest.TestCase):
@@ -200,7 +247,8 @@ class CallsTest(unittest.TestCase):
         listed = [(function.__module__, function.__name__) for function, _, _ in CALLS + ANY_VALUE]
         self.assertEqual(len(listed), len(set(listed)))
         for name, count in (("webs", 13), ("leaving", 7), ("bare_rounds", 11), ("whole_lots", 6), ("partings", 10),
-                            ("lot_trees", 16), ("subtrees", 11), ("orders", 6), ("starts", 6)):
+                            ("lot_trees", 16), ("subtrees", 11), ("orders", 6), ("starts", 6), ("swaps", 5), ("dyes", 12),
+                            ("covers", 12), ("fillings", 14)):
             self.assertEqual(len([1 for module, _ in listed if module == "leaveorder." + name]), count, name)
 
     def test_by_name_as_by_position(self):
@@ -226,6 +274,13 @@ class CallsTest(unittest.TestCase):
             subtrees.is_host(value)
             subtrees.is_spread(HOST, value)
             subtrees.is_spread_of(TWIG, value)
+            swaps.is_swap_row(TWIG, ORDER, ORDER, value)
+            dyes.is_dyeing(TWIG, 3, value)
+            dyes.is_exchange_row(TWIG, 3, DYEING, DYEING, value)
+            for function in (covers.is_cover, covers.is_apart_paper, fillings.is_least_filling, fillings.is_calm,
+                             fillings.is_greatest_calm):
+                function(TWIG, value)
+            covers.is_weight_paper(TWIG, (0, 1, 2, 3, 4), value)
             self.assertEqual(repr(value), repr(kept))
 
     def test_lists_are_new(self):

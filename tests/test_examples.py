@@ -1,10 +1,16 @@
-"""The rows of the document's examples of parts 1 to 6."""
+"""The rows of the document's examples of parts 1 to 8."""
 
 import unittest
 
 from leaveorder.bare_rounds import (bare_ring, bare_rings, bare_through, bared, is_bare, least_bare, least_stuck, rest,
                                     rest_among, ring_told, ties_across)
-from leaveorder.errors import InvalidText, NotLeaving, NotParting, NotTied, NotTree
+from leaveorder.covers import (apart_along, apart_counts, apart_number, apart_paper, fewest_cover, heaviest_apart,
+                               is_apart_paper, is_weight_paper, most_apart, nth_apart)
+from leaveorder.dyes import (direction_count, dyed_back, dyeing_count, exchange_row, exchanged, fewest_dyes,
+                             first_dyeing, is_dyeing, is_exchange_row, later_counts)
+from leaveorder.errors import InvalidText, NotApart, NotFilling, NotLeaving, NotParting, NotTied, NotTree
+from leaveorder.fillings import (fewest_count, filling_by, filling_by_lots, is_calm, is_filling, is_greatest_calm,
+                                 is_least_filling, least_fillings, lots_of_filling, spare_ties)
 from leaveorder.leaving import (first_hitch, first_order, is_order, later_neighbours, may_leave, order_ending)
 from leaveorder.lot_trees import (branches, first_tree, fixed_branches, is_lot_tree, meets, nth_tree, split_place,
                                   tree_count, tree_exchanged, tree_exchanges, tree_number, tree_row, tree_sum, trees,
@@ -15,6 +21,7 @@ from leaveorder.partings import (fewest_parting, first_crossing, full_pieces, is
 from leaveorder.starts import free_in, is_start, order_staying, start_count, stay_over
 from leaveorder.subtrees import (across, beyond, common_spots, is_host, is_spread, is_spread_of, order_from, spanned,
                                  spread_of, trimmed, web_of_spread)
+from leaveorder.swaps import fewest_swaps, is_swap_row, swapped, swaps_of
 from leaveorder.webs import is_apart, is_tied, mirrored, neighbours, web_text, web_told
 from leaveorder.whole_lots import greatest_lot, heads, is_whole, lots_with, tied_counts, whole_lots
 
@@ -22,6 +29,8 @@ path, ring = web_told("d:ab,bc,cd"), web_told("d:ab,ad,bc,cd")
 fan = web_told("d:ab,ac,ad,bc,cd")
 house = web_told("e:ab,ad,ae,bc,be,cd")
 star = web_told("d:ab,ac,ad")
+palm = web_told("e:ab,ac,ad,ae,bc,cd,de")
+square, five = web_told("d:ab,ad,bc,cd"), web_told("e:ab,ae,bc,cd,de")
 
 
 class ExamplesTest(unittest.TestCase):
@@ -195,7 +204,74 @@ class OrderExamplesTest(unittest.TestCase):
             [is_start(path, (0, 3)), is_start(path, (1,)), start_count(path), stay_over(path, (0, 2)),
              free_in(path, (0, 2)), stay_over(path, ())],
             [True, False, 11, (0, 1, 2), (0, 2), ()])
-        self.assertIsNone(order_staying(path, (0, 2)))
+        self.assertEqual([order_staying(path, (0, 2)), swaps_of(path, (0, 1, 2, 3)), swapped(path, (0, 1, 2, 3), 2)],
+                         [None, [2], (0, 1, 3, 2)])
+        self.assertEqual(
+            [fewest_swaps(path, (0, 1, 2, 3), (3, 2, 1, 0)),
+             is_swap_row(path, (0, 1, 2, 3), (0, 3, 1, 2), [2, 1]),
+             is_swap_row(path, (0, 1, 2, 3), (0, 1, 2, 3), [])],
+            [6, True, True])
+
+
+class DyeExamplesTest(unittest.TestCase):
+
+    def test_dyeings(self):
+        self.assertEqual(
+            [dyeing_count(path, 2), dyeing_count(path, 3), fewest_dyes(path), later_counts(path), direction_count(path)],
+            [2, 24, 2, (0, 1, 1, 1), 8])
+        self.assertEqual(
+            [later_counts(palm), dyeing_count(palm, 3), dyeing_count(palm, 2), first_dyeing(palm, 3),
+             first_dyeing(palm, 2)],
+            [(0, 1, 2, 2, 2), 6, 0, (0, 1, 2, 1, 2), None])
+        self.assertEqual(
+            [dyed_back(path, (0, 1, 2, 3)), dyed_back(path, (0, 3, 1, 2)), is_dyeing(path, 2, (0, 1, 0, 1)),
+             is_dyeing(path, 2, [0, 1, 0, 1])],
+            [(1, 0, 1, 0), (0, 1, 0, 1), True, False])
+        self.assertEqual(
+            [exchanged(path, 3, (0, 1, 0, 2), 1, 2), exchanged(path, 3, (0, 1, 0, 2), 1, 0),
+             exchange_row(path, 3, (0, 1, 0, 1), (0, 1, 0, 1))],
+            [(0, 2, 0, 2), (1, 0, 1, 2), []])
+        self.assertIs(is_exchange_row(path, 2, (0, 1, 0, 1), (1, 0, 1, 0), [(3, 0)]), True)
+        with self.assertRaises(NotLeaving) as caught:
+            fewest_dyes(ring)
+        self.assertEqual(caught.exception.ring, (0, 1, 2, 3))
+
+    def test_covers(self):
+        self.assertEqual(
+            [apart_counts(path), most_apart(palm), nth_apart(path, 6), nth_apart(path, 8), apart_number(path, (0, 3))],
+            [[1, 4, 3], 2, (0, 3), None, 6])
+        self.assertEqual(
+            [whole_lots(path), is_apart_paper(path, apart_paper(path)), is_apart_paper(path, ((0, 3), (0, 2))),
+             is_apart_paper(path, ((0, 2), (0, 1, 2)))],
+            [[(0, 1), (1, 2), (2, 3)], True, True, False])
+        self.assertEqual(
+            [heaviest_apart(path, (2, 5, 4, 1)), is_weight_paper(path, (2, 5, 4, 1), ((0, 2), (2, 3, 1))),
+             fewest_cover(palm)],
+            [6, True, 2])
+        self.assertEqual([apart_along(path, (0, 1, 2, 3)), apart_along(palm, (1, 4, 0, 2, 3))], [(0, 2), (1, 4)])
+        with self.assertRaises(NotApart) as caught:
+            apart_number(path, (0, 1, 2))
+        self.assertEqual(caught.exception.tie, (0, 1))
+
+
+class FillingExamplesTest(unittest.TestCase):
+
+    def test_fillings(self):
+        self.assertEqual(
+            [least_fillings(square), len(least_fillings(five)), fewest_count(five), filling_by(square, (0, 1, 2, 3)),
+             is_filling(square, ())],
+            [[((0, 2),), ((1, 3),)], 5, 2, ((1, 3),), False])
+        self.assertEqual(
+            [spare_ties(square, ((0, 2), (1, 3))), is_least_filling(square, ((0, 2), (1, 3))),
+             is_crossing(square, (0, 2), (1, 3))],
+            [[(0, 2), (1, 3)], False, True])
+        self.assertEqual(
+            [lots_of_filling(square, ((0, 2),)), filling_by_lots(square, ((0, 2), (1,))),
+             is_greatest_calm(square, ((1, 3),)), is_calm(square, ((0, 2), (1, 3)))],
+            [((0, 2),), ((0, 2),), True, False])
+        with self.assertRaises(NotFilling) as caught:
+            spare_ties(five, ((0, 2),))
+        self.assertEqual(caught.exception.ring, (0, 2, 3, 4))
 
 
 if __name__ == "__main__":

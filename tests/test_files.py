@@ -35,7 +35,8 @@ class FilesTest(unittest.TestCase):
         for name in files():
             self.assertRegex(name, r"^(__init__|[a-z][a-z0-9_]*)\.py$")
         for name in ("__init__.py", "errors.py", "webs.py", "leaving.py", "bare_rounds.py", "whole_lots.py",
-                     "partings.py", "lot_trees.py", "subtrees.py", "orders.py", "starts.py"):
+                     "partings.py", "lot_trees.py", "subtrees.py", "orders.py", "starts.py", "swaps.py", "dyes.py",
+                     "covers.py", "fillings.py"):
             self.assertIn(name, files())
 
     def test_characters_and_sizes(self):

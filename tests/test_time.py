@@ -3,7 +3,8 @@
 import time
 import unittest
 
-from leaveorder import bare_rounds, leaving, lot_trees, orders, partings, starts, subtrees, webs, whole_lots
+from leaveorder import (bare_rounds, covers, dyes, fillings, leaving, lot_trees, orders, partings, starts, subtrees,
+                        swaps, webs, whole_lots)
 from leaveorder.errors import LeaveError
 from tests.at_hand import pairs, path_web, some_hosts, some_spread, star_web, webs_of_twelve
 
@@ -14,12 +15,14 @@ OF_A_WEB = (
     bare_rounds.least_stuck, leaving.may_leave, leaving.is_leaving, leaving.first_order, whole_lots.whole_lots,
     whole_lots.greatest_lot, whole_lots.tied_counts, partings.partings, partings.first_crossing, partings.part_counts,
     lot_trees.first_tree, lot_trees.tree_count, lot_trees.trees, lot_trees.branches, lot_trees.fixed_branches,
-    subtrees.spread_of, orders.order_count, starts.start_count, starts.starts,
+    subtrees.spread_of, orders.order_count, starts.start_count, starts.starts, dyes.fewest_dyes, dyes.later_counts,
+    dyes.direction_count, covers.apart_counts, covers.most_apart, covers.apart_paper, covers.fewest_cover,
+    fillings.fewest_count, fillings.fewest_filling, fillings.least_fillings,
 )
 EVERY = tuple(range(12))
 OF_A_LOT = (webs.is_tied, webs.pieces, webs.inner, bare_rounds.rest_among, leaving.may_leave, leaving.order_ending,
             whole_lots.is_whole, partings.full_pieces, starts.is_start, starts.stay_over, starts.free_in,
-            starts.order_staying)
+            starts.order_staying, covers.apart_number)
 OF_A_TREE = (lot_trees.is_lot_tree, lot_trees.meets, lot_trees.tree_sum, lot_trees.split_place, lot_trees.tree_number,
              lot_trees.tree_exchanges)
 
@@ -90,6 +93,49 @@ class TimeTest(unittest.TestCase):
             self.asked(orders.index_counts, web, 7)
             self.asked(orders.ahead_count, web, 7, 3)
 
+    def test_swaps_and_dyes(self):
+        for web in webs_of_twelve():
+            for number in (2, 5, 1000):
+                self.asked(dyes.dyeing_count, web, number)
+                self.asked(dyes.first_dyeing, web, number)
+                self.asked(dyes.nth_dyeing, web, number, 10 ** 30 // 7)
+            if not leaving.is_leaving(web):
+                continue
+            order, other = orders.nth_order(web, 0), orders.nth_order(web, orders.order_count(web) - 1)
+            for function in (swaps.swap_row, swaps.fewest_swaps):
+                self.asked(function, web, order, other)
+            there, back = swaps.swap_row(web, order, other), swaps.swap_row(web, other, order)
+            row = (there + back) * (2998 // max(1, len(there + back)))
+            self.assertIs(self.asked(swaps.is_swap_row, web, order, order, row), True)
+            few = dyes.fewest_dyes(web)
+            for many in (few, 1000):
+                count = dyes.dyeing_count(web, many)
+                first, last = [self.asked(dyes.nth_dyeing, web, many, number) for number in (0, count - 1)]
+                there = self.asked(dyes.exchange_row, web, many, first, last)
+                back = self.asked(dyes.exchange_row, web, many, last, first)
+                self.asked(dyes.dyeing_number, web, many, last)
+                row = (there + back) * (900 // max(1, len(there + back)))
+                self.assertIs(self.asked(dyes.is_exchange_row, web, many, first, first, row), True)
+
+    def test_covers_and_fillings(self):
+        for web in webs_of_twelve():
+            weights = tuple(x * x * 7919 % 1000001 for x in range(web[0]))
+            self.asked(covers.heaviest_apart, web, weights)
+            paper = self.asked(covers.weight_paper, web, weights)
+            self.asked(covers.is_weight_paper, web, weights, paper)
+            self.asked(covers.is_cover, web, tuple(range(len(whole_lots.whole_lots(web)))))
+            self.asked(covers.nth_apart, web, 500)
+            every = tuple(sorted(partings.partings(web)))
+            for row in (every[:200], every[:1], every[:3], ()):
+                self.asked(fillings.is_calm, web, row)
+                self.asked(fillings.is_greatest_calm, web, row)
+                self.asked(fillings.filling_by_lots, web, row)
+            missing = fillings.filled(web, ()) and webs.mirrored(web)[1]
+            for function in (fillings.spare_ties, fillings.least_within, fillings.row_for, fillings.lots_of_filling,
+                             fillings.is_least_filling):
+                self.asked(function, web, missing)
+                self.asked(function, web, missing[:20])
+
     def test_hosts(self):
         for host in [path_web(12), star_web(12), *some_hosts(12, 6, 90)]:
             for spread in (some_spread(host, 12, 91), tuple((x,) for x in range(12)), (tuple(range(12)),) * 12):
@@ -113,6 +159,7 @@ class TimeTest(unittest.TestCase):
     def test_free_results_have_few_parts(self):
         for web in webs_of_twelve():
             for function, arguments in ((bare_rounds.bare_ring, ()), (leaving.first_order, ()), (subtrees.spread_of, ()),
+                                        (covers.apart_paper, ()), (fillings.fewest_filling, ()),
                                         (partings.least_in, ((2, 3, 4, 5), 0, 11)), (partings.least_in, ((), 0, 11))):
                 told = self.asked(function, web, *arguments)
                 value = list(vars(told).values()) if isinstance(told, LeaveError) else told

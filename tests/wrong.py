@@ -1,6 +1,6 @@
 """Wrong arguments for each parameter, and the webs of the right calls."""
 
-from leaveorder import bare_rounds, errors, subtrees, webs
+from leaveorder import bare_rounds, covers, dyes, errors, subtrees, webs
 from tests.at_hand import BIG, ODD_VALUES, deep
 
 FAN = (4, ((0, 1), (0, 2), (0, 3), (1, 2), (2, 3)))
@@ -10,6 +10,9 @@ TWIG = (5, ((0, 1), (0, 2), (0, 3), (3, 4)))
 TREE, OTHER_TREE = ((0, 1), (0, 2), (2, 3)), ((0, 2), (1, 2), (2, 3))
 HOST = (5, ((0, 1), (1, 2), (1, 3), (3, 4)))
 SPREAD = ((0, 1), (1, 2, 3), (3, 4), (4,), (0, 1, 3))
+ORDER = (1, 2, 0, 3, 4)
+# Dyeings of the twig with three dyes.
+DYEING = (0, 1, 2, 1, 0)
 
 ERRORS = {
     "web": errors.InvalidWeb, "other_web": errors.InvalidWeb, "place": errors.InvalidPlace,
@@ -17,7 +20,10 @@ ERRORS = {
     "other_lot": errors.InvalidLot, "row": errors.InvalidRow, "order": errors.InvalidRow,
     "number": errors.InvalidCount, "tree": errors.InvalidTree, "other_tree": errors.InvalidTree,
     "branch": errors.InvalidBranch, "other_branch": errors.InvalidBranch, "host": errors.InvalidHost,
-    "spread": errors.InvalidSpread, "spot": errors.InvalidPlace,
+    "spread": errors.InvalidSpread, "spot": errors.InvalidPlace, "other_order": errors.InvalidRow,
+    "dyes": errors.InvalidCount, "dyeing": errors.InvalidDyeing, "other_dyeing": errors.InvalidDyeing,
+    "dye": errors.InvalidDye, "weights": errors.InvalidWeights, "missing": errors.InvalidTies,
+    "lots": errors.InvalidLot,
 }
 
 WRONG_WEBS = ODD_VALUES + [
@@ -66,13 +72,39 @@ WRONG_SPREADS = ODD_VALUES + [
     (*SPREAD, (True,)), (*SPREAD, (0, True)), (*SPREAD, (BIG,)), (*SPREAD, "a"), (*SPREAD, deep(tuple)), HOST,
     ((0,),) * 13, (*SPREAD, *SPREAD, (0,), (1,), (2,)), (HOST, SPREAD), deep(list), "abc", ((0, 4),), ((0, 1, 4),),
 ]
+WRONG_DYES = [value for value in ODD_VALUES if value not in (12, 13)] + [(), (3,), "3", [3], -2, 1001, 2000, HOUSE]
+WRONG_DYEINGS = ODD_VALUES + [
+    (), 0, [*DYEING], (0, 0, 2, 1, 0), (0, 1, 0, 1, 0), (0, 1, 2, 1, 1), (0, 1, 2, 3, 0), (0, 1, 2, 1, -1), (0, 1, 2, 1),
+    (*DYEING, 0), (0, True, 2, 1, 0), (False, 1, 2, 1, 0), (0, 1, 2, 1, None), (0, 1, 2, 1, (0,)), (0, 1, 2, BIG, 0),
+    (0, 1, 2, 1, "0"), "01210", (DYEING,), (0, 1, 2, 1, deep(list)), HOUSE, 3,
+]
+WRONG_DYE = ODD_VALUES + [3, 4, (), (0,), [0], "2", -2, HOUSE, DYEING]
+WRONG_WEIGHTS = ODD_VALUES + [
+    (), 0, [1, 2, 3, 4, 5], (1, 2, 3, 4), (1, 2, 3, 4, 5, 6), (1, 2, 3, 4, -1), (1, 2, 3, 4, 1000001), (1, 2, True, 4, 5),
+    (1, 2, 3, 4, False), (1, 2, 3, 4, None), (1, 2, 3, 4, BIG), (1, 2, 3, 4, "5"), (1, 2, 3, 4, (5,)), "12345", HOUSE,
+    ((1, 2, 3, 4, 5),), (1, 2, 3, deep(tuple), 5),
+]
+WRONG_MISSING = ODD_VALUES + [
+    0, [], [(0, 2)], ((0, 1),), ((0, 2), (0, 3)), ((1, 3), (0, 2)), ((0, 2), (0, 2)), ((2, 0),), ((2, 2),), ((2, 5),),
+    ([0, 2],), ((0, 2, 3),), ((0,),), ((),), (0, 2), ((0, 2), None), ((0, 2), 3), ((False, 2),), ((0, BIG),), ((-1, 2),),
+    ((0, 2), (1, 3), (2, 4), (3, 4), (4, 5)), ((0, 2), deep(list)), (deep(tuple),), "ac", HOUSE, ((0, "2"),), (((0, 2),),),
+]
+WRONG_SETS_OF_LOTS = ODD_VALUES + [
+    0, [], [(0, 2)], ((1,), (0,)), ((0,), (0,)), ((0, 1), (0,)), ((0,), ()), ((), ()), ((1, 0),), ((0, 0),), ((0, 5),),
+    ([0],), ((0,), None), ((0,), 1), ((0, True),), ((BIG,),), ((-1,),), (0, 1), ((0,), [1]), "ab", HOUSE, (((0,),),),
+    ((0,), deep(list)), ((0,), deep(tuple)), ((0, "1"),),
+]
 WRONG = {
     "web": WRONG_WEBS, "other_web": WRONG_WEBS, "place": WRONG_PLACES, "other_place": WRONG_PLACES, "tie": WRONG_TIES,
     "lot": WRONG_LOTS, "other_lot": WRONG_LOTS, "row": WRONG_ROWS, "order": WRONG_ROWS + NO_ORDERS,
     "number": WRONG_NUMBERS, "tree": WRONG_TREES, "other_tree": WRONG_TREES, "branch": WRONG_BRANCHES,
     "other_branch": WRONG_BRANCHES, "host": WRONG_HOSTS, "spread": WRONG_SPREADS, "spot": WRONG_PLACES,
+    "other_order": WRONG_ROWS + NO_ORDERS, "dyes": WRONG_DYES, "dyeing": WRONG_DYEINGS, "other_dyeing": WRONG_DYEINGS,
+    "dye": WRONG_DYE, "weights": WRONG_WEIGHTS, "missing": WRONG_MISSING, "lots": WRONG_SETS_OF_LOTS,
 }
 ROUNDS = (bare_rounds.ring_told, bare_rounds.ties_across, bare_rounds.bared)
+# The rows of these must be leaving orders.
+ORDERED = (dyes.dyed_back, covers.apart_along)
 
 
 def wrong_values(function, names, right, name):
@@ -81,6 +113,10 @@ def wrong_values(function, names, right, name):
         return WRONG_LOTS + [()]
     if name == "other_place":
         return WRONG_PLACES + [right[names.index("place")]]
+    if name == "dye":
+        return WRONG_DYE + [right[names.index("dyeing")][right[names.index("place")]]]
+    if name == "row" and function in ORDERED:
+        return WRONG_ROWS + NO_ORDERS
     if name == "row":
         # A row of four places is right for a round; one that does not go round is right for the others.
         return WRONG_ROWS + ([(0, 1, 2, 4), (0, 1, 2, 3, 4), (0, 1, 3, 4)] if function in ROUNDS else [(0, 1, 2, 3)])
