@@ -1,11 +1,12 @@
 """Each function of the program with right arguments."""
 
-from leaveorder import (bare_rounds, covers, dyes, fillings, leaving, lot_trees, orders, partings, starts, subtrees,
-                        swaps, webs, whole_lots)
-from tests.wrong import DYEING, FAN, HOST, HOUSE, ORDER, OTHER_TREE, SPREAD, TREE, TWIG
+from leaveorder import (bare_rounds, covers, dyes, fillings, leaving, lot_trees, orders, partings, starts, stretches,
+                        subtrees, swaps, tables, webs, whole_lots, widths)
+from tests.wrong import (DYEING, FAMILY, FAN, HOST, HOUSE, ORDER, OTHER_TREE, SPREAD, STRETCHES, TABLE, THICKET, TREE,
+                         TWIG)
 
 MODULES = (webs, leaving, bare_rounds, whole_lots, partings, lot_trees, subtrees, orders, starts, swaps, dyes, covers,
-           fillings)
+           fillings, widths, stretches, tables)
 OTHER_DYEING, OTHER_ORDER = (1, 0, 0, 2, 0), (4, 2, 1, 3, 0)
 WEIGHTS = (3, 0, 1000000, 7, 2)
 
@@ -137,6 +138,40 @@ CALLS = [
     (fillings.is_greatest_calm, ("web", "value"), (HOUSE, ((0, 1), (0, 2)))),
     (fillings.filling_by_lots, ("web", "lots"), (HOUSE, ((0, 2), (3,)))),
     (fillings.lots_of_filling, ("web", "missing"), (HOUSE, ((0, 2),))),
+    (widths.width, ("web",), (HOUSE,)),
+    (widths.width_by, ("web", "row"), (HOUSE, (4, 2, 0, 1, 3))),
+    (widths.least_width_row, ("web",), (HOUSE,)),
+    (widths.is_thicket, ("web", "value"), (HOUSE, THICKET)),
+    (widths.meeting_lot, ("web", "thicket"), (HOUSE, THICKET)),
+    (widths.thicket_order, ("web", "thicket"), (HOUSE, THICKET)),
+    (widths.widest_thicket, ("web",), (HOUSE,)),
+    (stretches.web_of_stretches, ("stretches",), (STRETCHES,)),
+    (stretches.is_stretched, ("web", "value"), ((5, ((0, 1), (1, 2))), STRETCHES)),
+    (stretches.apart_three, ("web",), (HOUSE,)),
+    (stretches.is_apart_three, ("web", "lot"), (HOUSE, (0, 1, 2))),
+    (stretches.is_apart_ways, ("web", "lot", "value"), (HOUSE, (0, 1, 2), ())),
+    (stretches.apart_ways, ("web", "lot"), (HOUSE, (2, 3, 4))),
+    (stretches.claw, ("web",), (TWIG,)),
+    (stretches.is_lot_row, ("web", "value"), (TWIG, (1, 0, 2, 3))),
+    (stretches.is_line_order, ("web", "value"), (TWIG, (1, 2, 0, 3, 4))),
+    (stretches.is_even_order, ("web", "value"), (TWIG, (1, 2, 0, 3, 4))),
+    (stretches.stretches, ("web",), (TWIG,)),
+    (stretches.row_stretches, ("web", "row"), (TWIG, (1, 0, 2, 3))),
+    (stretches.lot_row_count, ("web",), (TWIG,)),
+    (stretches.nth_lot_row, ("web", "number"), (TWIG, 2)),
+    (stretches.line_order_count, ("web",), (TWIG,)),
+    (stretches.nth_line_order, ("web", "number"), (TWIG, 2)),
+    (stretches.even_order, ("web",), ((5, ((0, 1), (0, 3), (3, 4))),)),
+    (tables.family_of, ("web", "table"), (HOUSE, TABLE)),
+    (tables.clash, ("web", "tables"), (TWIG, FAMILY)),
+    (tables.whole_table, ("web", "tables"), (TWIG, FAMILY)),
+    (tables.weight_at, ("web", "tables", "row"), (TWIG, FAMILY, (0, 1, 0, 1, 1))),
+    (tables.sums_within, ("web", "tables", "lot"), (TWIG, FAMILY, (1, 2, 4))),
+    (tables.heaviest_row, ("web", "tables"), (TWIG, FAMILY)),
+    (tables.is_whole_table, ("web", "tables", "value"), (TWIG, FAMILY, ())),
+    (tables.is_denial, ("web", "tables", "value"), (TWIG, FAMILY, ((0,) * 4,) * 4)),
+    (tables.torn_family, ("web",), (HOUSE,)),
+    (tables.torn_denial, ("web",), (HOUSE,)),
 ]
 ANY_VALUE = [(webs.is_web, ("value",), (HOUSE,)), (webs.web_told, ("text",), ("e:ab,de",)),
              (subtrees.is_host, ("value",), (HOST,))]

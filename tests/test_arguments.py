@@ -6,14 +6,17 @@ import unittest
 from itertools import combinations
 
 from leaveorder import (bare_rounds, covers, dyes, errors, fillings, leaving, lot_trees, orders, partings, starts,
-                        subtrees, swaps, webs, whole_lots)
+                        stretches, subtrees, swaps, tables, webs, whole_lots, widths)
 from tests.at_hand import BIG, ODD_VALUES, bare_web, deep, full_web, ring_web
 from tests.calls import ANY_VALUE, CALLS, LISTS, MODULES
-from tests.wrong import (DYEING, ERRORS, FAN, HOST, HOUSE, ORDER, OTHER_TREE, SPREAD, TREE, TWIG, WRONG_HOSTS,
+from tests.wrong import (DYEING, ERRORS, FAMILY, FAN, HOST, HOUSE, ORDER, OTHER_TREE, SPREAD, TREE, TWIG, WRONG_HOSTS,
                          WRONG_WEBS, wrong_values)
 
 # Joining trees of the twig's whole lots that are no lot trees, as the places 3 and 0 tell.
 NO_TREE, OTHER_NO_TREE = ((0, 1), (0, 2), (0, 3)), ((0, 3), (1, 3), (2, 3))
+SPIDER = (7, ((0, 1), (0, 2), (0, 3), (1, 4), (2, 5), (3, 6)))
+# A family of the round of four that does not agree.
+CLASHING = ((1, 1, 1, 1), (1, 1, 1, 1), (1, 1, 1, 1), (1, 1, 1, 2))
 
 
 class WrongArgumentsTest(unittest.TestCase):
@@ -152,7 +155,40 @@ class WrongArgumentsTest(unittest.TestCase):
                 (fillings.row_for, (ring, ()), errors.NotFilling),
                 (fillings.lots_of_filling, (ring, ()), errors.NotFilling),
                 (fillings.least_fillings, (bare_web(8),), errors.TooMany),
-                (fillings.least_fillings, ((8, []),), errors.InvalidWeb)):
+                (fillings.least_fillings, ((8, []),), errors.InvalidWeb),
+                (widths.widest_thicket, (bare_web(9),), errors.TooMany),
+                (stretches.row_stretches, (ring, (0, 1, 2, 3)), errors.InvalidRow),
+                (stretches.row_stretches, (bare_web(1), ()), errors.InvalidRow),
+                (stretches.nth_lot_row, (ring, -1), errors.InvalidCount),
+                (stretches.stretches, (ring,), errors.NotLeaving),
+                (stretches.even_order, (ring,), errors.NotLeaving),
+                (stretches.even_order, (SPIDER,), errors.NotStretched),
+                (stretches.stretches, (SPIDER,), errors.NotStretched),
+                (stretches.even_order, (TWIG,), errors.NotEven),
+                (stretches.is_apart_three, (ring, (0, 1, 2, 4)), errors.InvalidLot),
+                (tables.family_of, ((9, []), ()), errors.InvalidWeb),
+                (tables.family_of, (bare_web(9), ()), errors.TooMany),
+                (tables.family_of, (bare_web(8), ()), errors.InvalidTables),
+                (tables.whole_table, (ring, ((1,) * 4,) * 3), errors.InvalidTables),
+                (tables.whole_table, (ring, CLASHING), errors.NotLeaving),
+                (tables.whole_table, (bare_web(9), ((1, 1),) * 8 + ((1, 2),)), errors.NotAgreeing),
+                (tables.whole_table, (bare_web(9), ((1, 1),) * 9), errors.TooMany),
+                (tables.whole_table, (big_ring, ((1,) * 4,) * 12), errors.NotLeaving),
+                (tables.weight_at, (ring, CLASHING, (0, 0, 0, 2)), errors.InvalidRow),
+                (tables.weight_at, (ring, CLASHING, (0, 0, 0, 1)), errors.NotLeaving),
+                (tables.weight_at, (TWIG, ((1,) * 4,) * 3 + ((2,) * 4,), (0,) * 5), errors.NotAgreeing),
+                (tables.sums_within, (ring, CLASHING, (1, 0)), errors.InvalidLot),
+                (tables.sums_within, (ring, CLASHING, (0, 1)), errors.NotLeaving),
+                (tables.sums_within, (bare_web(7), ((1, 1),) * 6 + ((1, 2),), tuple(range(7))), errors.NotAgreeing),
+                (tables.sums_within, (bare_web(7), ((1, 1),) * 7, tuple(range(7))), errors.TooMany),
+                (tables.sums_within, (bare_web(7), ((1, 1),) * 7, tuple(range(8))), errors.InvalidLot),
+                (tables.heaviest_row, (ring, CLASHING), errors.NotLeaving),
+                (tables.heaviest_row, (TWIG, ((1,) * 4,) * 3 + ((2,) * 4,)), errors.NotAgreeing),
+                (tables.is_whole_table, (bare_web(9), ((1, 1),) * 8, None), errors.InvalidTables),
+                (tables.is_whole_table, (bare_web(9), ((1, 1),) * 9, None), errors.TooMany),
+                (tables.torn_family, (bare_web(11),), errors.TooMany),
+                (tables.torn_denial, (big_ring,), errors.TooMany),
+                (tables.torn_family, ((11, []),), errors.InvalidWeb)):
             self.assertIs(self.raised(function, list(arguments)), error, (function.__name__, arguments))
 
     def test_of_two_trees_that_are_none_the_first_one_is_told(self):
@@ -219,6 +255,12 @@ class WrongArgumentsTest(unittest.TestCase):
         self.assertIs(self.raised(fillings.filled, [HOUSE, (Row((0, 2)),)]), errors.InvalidTies)
         self.assertIs(self.raised(fillings.filling_by_lots, [HOUSE, (Row((0, 2)),)]), errors.InvalidLot)
         self.assertIs(fillings.is_calm(HOUSE, Row(((0, 1),))), False)
+        self.assertIs(self.raised(widths.meeting_lot, [HOUSE, Row(((0,),))]), errors.InvalidThicket)
+        self.assertIs(self.raised(stretches.web_of_stretches, [(Row((0, 1)),)]), errors.InvalidStretches)
+        self.assertIs(self.raised(stretches.web_of_stretches, [((0, Number(1)),)]), errors.InvalidStretches)
+        self.assertIs(self.raised(tables.clash, [TWIG, Row(FAMILY)]), errors.InvalidTables)
+        self.assertIs(self.raised(tables.clash, [TWIG, (*FAMILY[:3], (1, 0, 1, Number(2)))]), errors.InvalidTables)
+        self.assertIs(stretches.is_lot_row(TWIG, Row((0, 1, 2, 3))), False)
         self.assertIs(covers.is_cover(TWIG, Row((0, 1, 2, 3))), False)
 
         class Steps(list):
@@ -248,7 +290,7 @@ class CallsTest(unittest.TestCase):
         self.assertEqual(len(listed), len(set(listed)))
         for name, count in (("webs", 13), ("leaving", 7), ("bare_rounds", 11), ("whole_lots", 6), ("partings", 10),
                             ("lot_trees", 16), ("subtrees", 11), ("orders", 6), ("starts", 6), ("swaps", 5), ("dyes", 12),
-                            ("covers", 12), ("fillings", 14)):
+                            ("covers", 12), ("fillings", 14), ("widths", 7), ("stretches", 17), ("tables", 10)):
             self.assertEqual(len([1 for module, _ in listed if module == "leaveorder." + name]), count, name)
 
     def test_by_name_as_by_position(self):
@@ -281,6 +323,12 @@ class CallsTest(unittest.TestCase):
                              fillings.is_greatest_calm):
                 function(TWIG, value)
             covers.is_weight_paper(TWIG, (0, 1, 2, 3, 4), value)
+            for function in (widths.is_thicket, stretches.is_stretched, stretches.is_lot_row, stretches.is_line_order,
+                             stretches.is_even_order):
+                function(TWIG, value)
+            stretches.is_apart_ways(SPIDER, (4, 5, 6), value)
+            tables.is_whole_table(TWIG, FAMILY, value)
+            tables.is_denial(TWIG, FAMILY, value)
             self.assertEqual(repr(value), repr(kept))
 
     def test_lists_are_new(self):

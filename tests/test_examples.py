@@ -1,4 +1,4 @@
-"""The rows of the document's examples of parts 1 to 8."""
+"""The rows of the document's examples of parts 1 to 10."""
 
 import unittest
 
@@ -8,7 +8,7 @@ from leaveorder.covers import (apart_along, apart_counts, apart_number, apart_pa
                                is_apart_paper, is_weight_paper, most_apart, nth_apart)
 from leaveorder.dyes import (direction_count, dyed_back, dyeing_count, exchange_row, exchanged, fewest_dyes,
                              first_dyeing, is_dyeing, is_exchange_row, later_counts)
-from leaveorder.errors import InvalidText, NotApart, NotFilling, NotLeaving, NotParting, NotTied, NotTree
+from leaveorder.errors import InvalidText, NotApart, NotEven, NotFilling, NotLeaving, NotParting, NotTied, NotTree
 from leaveorder.fillings import (fewest_count, filling_by, filling_by_lots, is_calm, is_filling, is_greatest_calm,
                                  is_least_filling, least_fillings, lots_of_filling, spare_ties)
 from leaveorder.leaving import (first_hitch, first_order, is_order, later_neighbours, may_leave, order_ending)
@@ -19,11 +19,15 @@ from leaveorder.orders import ahead_count, index_counts, next_order, nth_order, 
 from leaveorder.partings import (fewest_parting, first_crossing, full_pieces, is_crossing, is_least_parting, is_parting,
                                  least_in, part_counts, partings, partings_of)
 from leaveorder.starts import free_in, is_start, order_staying, start_count, stay_over
+from leaveorder.stretches import (apart_three, claw, even_order, line_order_count, lot_row_count, nth_line_order,
+                                  nth_lot_row, stretches, web_of_stretches)
 from leaveorder.subtrees import (across, beyond, common_spots, is_host, is_spread, is_spread_of, order_from, spanned,
                                  spread_of, trimmed, web_of_spread)
 from leaveorder.swaps import fewest_swaps, is_swap_row, swapped, swaps_of
+from leaveorder.tables import clash, heaviest_row, sums_within, weight_at, whole_table
 from leaveorder.webs import is_apart, is_tied, mirrored, neighbours, web_text, web_told
 from leaveorder.whole_lots import greatest_lot, heads, is_whole, lots_with, tied_counts, whole_lots
+from leaveorder.widths import is_thicket, meeting_lot, thicket_order, widest_thicket, width, width_by
 
 path, ring = web_told("d:ab,bc,cd"), web_told("d:ab,ad,bc,cd")
 fan = web_told("d:ab,ac,ad,bc,cd")
@@ -272,6 +276,45 @@ class FillingExamplesTest(unittest.TestCase):
         with self.assertRaises(NotFilling) as caught:
             spare_ties(five, ((0, 2),))
         self.assertEqual(caught.exception.ring, (0, 2, 3, 4))
+
+    def test_widths(self):
+        self.assertEqual(
+            [width(square), width(five), width_by(square, (0, 1, 2, 3)), width(web_told("c:")),
+             width(web_told("d:ab,ac,ad"))],
+            [2, 2, 2, 0, 1])
+        self.assertEqual(
+            [is_thicket(square, ((0,), (1,), (2, 3))), thicket_order(square, ((0,), (1,), (2, 3))),
+             meeting_lot(square, ((0,), (1,), (2, 3)))],
+            [True, 3, (0, 1, 2)])
+        self.assertEqual([is_thicket(square, ((0,), (2,))), thicket_order(five, widest_thicket(five))], [False, 3])
+
+
+class LineExamplesTest(unittest.TestCase):
+
+    def test_stretches(self):
+        long = web_told("g:ab,ac,ad,be,cf,dg")
+        self.assertEqual(
+            [stretches(path), lot_row_count(path), line_order_count(path), nth_lot_row(path, 1), nth_line_order(path, 1)],
+            [((0, 0), (0, 1), (1, 2), (2, 2)), 2, 4, (2, 1, 0), (1, 0, 2, 3)])
+        self.assertEqual(
+            [apart_three(long), claw(star), web_text(web_of_stretches(((0, 2), (1, 3), (3, 3))))],
+            [(4, 5, 6), (0, (1, 2, 3)), "c:ab,bc"])
+        with self.assertRaises(NotLeaving) as caught:
+            stretches(ring)
+        self.assertEqual(caught.exception.ring, (0, 1, 2, 3))
+        with self.assertRaises(NotEven) as caught:
+            even_order(star)
+        self.assertEqual(caught.exception.claw, (0, (1, 2, 3)))
+
+    def test_tables(self):
+        two, fam = web_told("c:ab,bc"), ((1, 1, 0, 2), (1, 0, 0, 3))
+        self.assertEqual(
+            [whole_table(two, fam), heaviest_row(two, fam)],
+            [((1, 1), (0, 1), (0, 1), (1, 1), (0, 1), (0, 1), (0, 1), (2, 1)), (1, 1, 1)])
+        self.assertEqual(
+            [clash(two, fam), clash(two, ((1, 1, 0, 2), (1, 1, 1, 1))), sums_within(two, fam, (0, 2)),
+             weight_at(two, fam, (1, 1, 1))],
+            [None, (0, 1), ((1, 1), (1, 1), (0, 1), (2, 1)), (2, 1)])
 
 
 if __name__ == "__main__":

@@ -36,7 +36,7 @@ class FilesTest(unittest.TestCase):
             self.assertRegex(name, r"^(__init__|[a-z][a-z0-9_]*)\.py$")
         for name in ("__init__.py", "errors.py", "webs.py", "leaving.py", "bare_rounds.py", "whole_lots.py",
                      "partings.py", "lot_trees.py", "subtrees.py", "orders.py", "starts.py", "swaps.py", "dyes.py",
-                     "covers.py", "fillings.py"):
+                     "covers.py", "fillings.py", "widths.py", "stretches.py", "tables.py"):
             self.assertIn(name, files())
 
     def test_characters_and_sizes(self):

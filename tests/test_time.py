@@ -2,11 +2,14 @@
 
 import time
 import unittest
+from itertools import combinations
+from math import gcd
 
-from leaveorder import (bare_rounds, covers, dyes, fillings, leaving, lot_trees, orders, partings, starts, subtrees,
-                        swaps, webs, whole_lots)
+from leaveorder import (bare_rounds, covers, dyes, fillings, leaving, lot_trees, orders, partings, starts, stretches,
+                        subtrees, swaps, tables, webs, whole_lots, widths)
 from leaveorder.errors import LeaveError
-from tests.at_hand import pairs, path_web, some_hosts, some_spread, star_web, webs_of_twelve
+from tests.at_hand import (BIG, bare_web, leaving_webs, pairs, parted_web, path_web, some_hosts, some_spread, star_web,
+                           tied_twice, two_sided_web, webs_of_twelve)
 
 MOST_SECONDS = 2
 
@@ -17,7 +20,9 @@ OF_A_WEB = (
     lot_trees.first_tree, lot_trees.tree_count, lot_trees.trees, lot_trees.branches, lot_trees.fixed_branches,
     subtrees.spread_of, orders.order_count, starts.start_count, starts.starts, dyes.fewest_dyes, dyes.later_counts,
     dyes.direction_count, covers.apart_counts, covers.most_apart, covers.apart_paper, covers.fewest_cover,
-    fillings.fewest_count, fillings.fewest_filling, fillings.least_fillings,
+    fillings.fewest_count, fillings.fewest_filling, fillings.least_fillings, widths.width, widths.least_width_row,
+    widths.widest_thicket, stretches.apart_three, stretches.claw, stretches.stretches, stretches.lot_row_count,
+    stretches.line_order_count, stretches.even_order, tables.torn_family, tables.torn_denial,
 )
 EVERY = tuple(range(12))
 OF_A_LOT = (webs.is_tied, webs.pieces, webs.inner, bare_rounds.rest_among, leaving.may_leave, leaving.order_ending,
@@ -25,6 +30,11 @@ OF_A_LOT = (webs.is_tied, webs.pieces, webs.inner, bare_rounds.rest_among, leavi
             starts.order_staying, covers.apart_number)
 OF_A_TREE = (lot_trees.is_lot_tree, lot_trees.meets, lot_trees.tree_sum, lot_trees.split_place, lot_trees.tree_number,
              lot_trees.tree_exchanges)
+
+
+def close_web(count, size):
+    """Places in a row, each tied with all that are less than so many steps away."""
+    return (count, tuple((x, y) for x, y in pairs(count) if y - x < size))
 
 
 def parts(value):
@@ -136,6 +146,60 @@ class TimeTest(unittest.TestCase):
                 self.asked(function, web, missing)
                 self.asked(function, web, missing[:20])
 
+    def test_lines(self):
+        for web in webs_of_twelve():
+            for number in (0, 1000, BIG):
+                row = self.asked(stretches.nth_lot_row, web, number)
+                if row is not None:
+                    self.asked(stretches.row_stretches, web, row)
+                self.asked(stretches.nth_line_order, web, number)
+            self.asked(widths.width_by, web, tuple(range(web[0])))
+            for lot in ((0, 4, 9), (1, 5, 10), (2, 6, 8)):
+                ways = self.asked(stretches.apart_ways, web, lot)
+                self.asked(stretches.is_apart_ways, web, lot, ways)
+            self.asked(stretches.is_line_order, web, tuple(range(web[0])))
+            self.asked(stretches.is_lot_row, web, tuple(range(len(whole_lots.whole_lots(web)))))
+
+    def test_tables(self):
+        # The most parts of a family that agrees, and unlike sums everywhere.
+        for web in [path_web(12), star_web(12), bare_web(12), *leaving_webs(12, 12, 140), close_web(12, 6), close_web(12, 8)]:
+            every = tuple(range(12))
+            wholes = whole_lots.whole_lots(web)
+            if sum(1 + (1 << len(lot)) for lot in wholes) > 3000:
+                continue
+            entries = [number * number * 7919 % 244 for number in range(4096)]
+            family = tuple(tables.sums_of(entries, every, lot) for lot in wholes)
+            self.asked(tables.clash, web, family)
+            self.asked(tables.weight_at, web, family, (1, 0) * 6)
+            self.asked(tables.heaviest_row, web, family)
+            for lot in ((), (3,), (0, 2, 4, 6, 8, 10), (6, 7, 8, 9, 10, 11)):
+                self.asked(tables.sums_within, web, family, lot)
+
+    def test_whole_tables_and_denials(self):
+        for web in [parted_web(8, 3), parted_web(8, 2), tied_twice(bare_web(4), bare_web(4)), *leaving_webs(8, 6, 141)]:
+            family = tables.family_of(web, tuple(number * 7919 % 1001 for number in range(256)))
+            self.asked(tables.whole_table, web, family)
+            value = tuple((10 ** 88 + number, 10 ** 88 - 3 * number) for number in range(256))
+            self.asked(tables.is_whole_table, web, family, tuple(self.lowest(*part) for part in value))
+        for web in (parted_web(12, 3), two_sided_web(12), parted_web(12, 2)):
+            wholes = whole_lots.whole_lots(web)
+            family = tuple((1,) * (1 << len(lot)) for lot in wholes)
+            self.asked(tables.clash, web, family)
+            self.asked(tables.is_denial, web, family, tuple((BIG,) * (1 << len(lot)) for lot in wholes))
+        for web in (two_sided_web(8), parted_web(8, 2)):
+            self.asked(widths.widest_thicket, web)
+
+    def lowest(self, top, bottom):
+        common = gcd(top, bottom)
+        return (top // common, bottom // common)
+
+    def test_thickets(self):
+        many = [lot for size in (1, 2, 3, 4) for lot in combinations(range(12), size)]
+        for web in webs_of_twelve()[::6]:
+            for value in (tuple(sorted(many))[:600], tuple(sorted(many, reverse=True))[:600][::-1]):
+                if self.asked(widths.is_thicket, web, value):
+                    self.asked(widths.meeting_lot, web, value)
+
     def test_hosts(self):
         for host in [path_web(12), star_web(12), *some_hosts(12, 6, 90)]:
             for spread in (some_spread(host, 12, 91), tuple((x,) for x in range(12)), (tuple(range(12)),) * 12):
@@ -160,6 +224,7 @@ class TimeTest(unittest.TestCase):
         for web in webs_of_twelve():
             for function, arguments in ((bare_rounds.bare_ring, ()), (leaving.first_order, ()), (subtrees.spread_of, ()),
                                         (covers.apart_paper, ()), (fillings.fewest_filling, ()),
+                                        (widths.least_width_row, ()), (stretches.apart_ways, ((0, 4, 8),)),
                                         (partings.least_in, ((2, 3, 4, 5), 0, 11)), (partings.least_in, ((), 0, 11))):
                 told = self.asked(function, web, *arguments)
                 value = list(vars(told).values()) if isinstance(told, LeaveError) else told

@@ -1,6 +1,6 @@
 """Wrong arguments for each parameter, and the webs of the right calls."""
 
-from leaveorder import bare_rounds, covers, dyes, errors, subtrees, webs
+from leaveorder import bare_rounds, covers, dyes, errors, stretches, subtrees, tables, webs
 from tests.at_hand import BIG, ODD_VALUES, deep
 
 FAN = (4, ((0, 1), (0, 2), (0, 3), (1, 2), (2, 3)))
@@ -13,6 +13,11 @@ SPREAD = ((0, 1), (1, 2, 3), (3, 4), (4,), (0, 1, 3))
 ORDER = (1, 2, 0, 3, 4)
 # Dyeings of the twig with three dyes.
 DYEING = (0, 1, 2, 1, 0)
+# A thicket of the house, a family of the twig, a table over five places.
+THICKET = ((0,), (1,), (2, 3))
+FAMILY = ((1, 1, 2, 0), (2, 0, 1, 1), (0, 2, 1, 1), (1, 0, 1, 2))
+TABLE = tuple(x * x % 23 for x in range(32))
+STRETCHES = ((0, 2), (1, 3), (3, 3), (-BIG, -5), (BIG - 1, BIG))
 
 ERRORS = {
     "web": errors.InvalidWeb, "other_web": errors.InvalidWeb, "place": errors.InvalidPlace,
@@ -23,7 +28,8 @@ ERRORS = {
     "spread": errors.InvalidSpread, "spot": errors.InvalidPlace, "other_order": errors.InvalidRow,
     "dyes": errors.InvalidCount, "dyeing": errors.InvalidDyeing, "other_dyeing": errors.InvalidDyeing,
     "dye": errors.InvalidDye, "weights": errors.InvalidWeights, "missing": errors.InvalidTies,
-    "lots": errors.InvalidLot,
+    "lots": errors.InvalidLot, "thicket": errors.InvalidThicket, "stretches": errors.InvalidStretches,
+    "table": errors.InvalidTables, "tables": errors.InvalidTables,
 }
 
 WRONG_WEBS = ODD_VALUES + [
@@ -94,6 +100,35 @@ WRONG_SETS_OF_LOTS = ODD_VALUES + [
     ([0],), ((0,), None), ((0,), 1), ((0, True),), ((BIG,),), ((-1,),), (0, 1), ((0,), [1]), "ab", HOUSE, (((0,),),),
     ((0,), deep(list)), ((0,), deep(tuple)), ((0, "1"),),
 ]
+WRONG_THICKETS = ODD_VALUES + [
+    (), 0, [*THICKET], ((0,), (2,)), ((0,), (1,), (3,)), ((1,), (0,)), ((0,), (0,)), ((), (0,)), ((),), ((0, 2),),
+    ((0, 1), (2, 4)), ((0,), (1,), [2, 3]), ((0,), (1,), (3, 2)), ((0,), (5,)), ((0,), (1,), None), ((0,), 1), (0, 1),
+    ((0,), (True,)), ((0,), (BIG,)), ((-1,), (0,)), ((0,), (1,), deep(tuple)), ((0,), (1,), deep(list)), "ab", HOUSE,
+    ((0, 0), (1,)), ((0,), (1,), (2, 3), (4,)), (((0,),),), ((0,), ("1",)),
+]
+WRONG_STRETCHES = ODD_VALUES + [
+    (), 0, [*STRETCHES], ((0, 2), [1, 3]), ((0, 2), (3, 1)), ((0, 2), (1,)), ((0, 2), (1, 2, 3)), ((0, 2), ()), (0, 2),
+    ((0, 2), None), ((0, 2), 1), ((0, True),), ((False, 1),), ((0, None),), ((None, 0),), (("0", "1"),), ((0, "1"),),
+    (("a", "b"),), ((BIG, -BIG),), ((0, 2), (BIG, BIG - 1)), ((0, 1),) * 13, "ab", HOUSE, ((0, (1,)),), (((0, 1),),),
+    ((0, 1), deep(tuple)), ((0, deep(list)),), (([0], [1]),), (((0,), (1,)),),
+]
+WRONG_TABLES = ODD_VALUES + [
+    (), 0, [*FAMILY], FAMILY[:3], (*FAMILY, (1, 0)), (*FAMILY[:3], [1, 0, 1, 2]), (*FAMILY[:3], (1, 0, 1)),
+    (*FAMILY[:3], (1, 0, 1, 2, 0)), (*FAMILY[:3], (1, 0, 1, -1)), (*FAMILY[:3], (1, 0, 1, 1000001)),
+    (*FAMILY[:3], (0, 0, 0, 0)), (*FAMILY[:3], (1, 0, 1, True)), (*FAMILY[:3], (False, 0, 1, 2)), (*FAMILY[:3], None),
+    (*FAMILY[:3], (1, 0, 1, BIG)), (*FAMILY[:3], (1, 0, 1, "2")), (*FAMILY[:3], (1, 0, 1, (2,))), (*FAMILY[:3], ()),
+    (*FAMILY[:3], 4), (*FAMILY[:3], "1012"), (*FAMILY[:3], deep(list)), (deep(tuple), *FAMILY[1:]), (FAMILY,), HOUSE,
+    TABLE, (*FAMILY[:3], (1, 0, 1, None)),
+]
+WRONG_TABLE = ODD_VALUES + [
+    (), 0, [*TABLE], TABLE[:31], (*TABLE, 0), (0,) * 32, (*TABLE[:31], -1), (*TABLE[:31], 1001), (*TABLE[:31], True),
+    (*TABLE[:31], None), (*TABLE[:31], BIG), (*TABLE[:31], "1"), (*TABLE[:31], (1,)), (*TABLE[:31], deep(list)), (TABLE,),
+    TABLE[:16], TABLE * 2, HOUSE, FAMILY, (False,) + TABLE[1:],
+]
+WRONG_VALUES = [
+    (0, 1, 0, 1), (0, 1, 0, 1, 0, 1), (0, 1, 0, 1, 2), (0, 1, 0, 1, -1), (0, 1, 0, 1, True), (False, 1, 0, 1, 0),
+    [0, 1, 0, 1, 0], (0, 1, 0, 1, None), (0, 1, 0, 1, (0,)), (0, 1, 0, 1, "0"), (0, 1, 0, 1, BIG), "01010",
+]
 WRONG = {
     "web": WRONG_WEBS, "other_web": WRONG_WEBS, "place": WRONG_PLACES, "other_place": WRONG_PLACES, "tie": WRONG_TIES,
     "lot": WRONG_LOTS, "other_lot": WRONG_LOTS, "row": WRONG_ROWS, "order": WRONG_ROWS + NO_ORDERS,
@@ -101,6 +136,7 @@ WRONG = {
     "other_branch": WRONG_BRANCHES, "host": WRONG_HOSTS, "spread": WRONG_SPREADS, "spot": WRONG_PLACES,
     "other_order": WRONG_ROWS + NO_ORDERS, "dyes": WRONG_DYES, "dyeing": WRONG_DYEINGS, "other_dyeing": WRONG_DYEINGS,
     "dye": WRONG_DYE, "weights": WRONG_WEIGHTS, "missing": WRONG_MISSING, "lots": WRONG_SETS_OF_LOTS,
+    "thicket": WRONG_THICKETS, "stretches": WRONG_STRETCHES, "table": WRONG_TABLE, "tables": WRONG_TABLES,
 }
 ROUNDS = (bare_rounds.ring_told, bare_rounds.ties_across, bare_rounds.bared)
 # The rows of these must be leaving orders.
@@ -115,6 +151,10 @@ def wrong_values(function, names, right, name):
         return WRONG_PLACES + [right[names.index("place")]]
     if name == "dye":
         return WRONG_DYE + [right[names.index("dyeing")][right[names.index("place")]]]
+    if name == "row" and function is tables.weight_at:
+        return WRONG_ROWS + WRONG_VALUES
+    if name == "row" and function is stretches.row_stretches:
+        return WRONG_ROWS + [(0, 2, 1, 3), (0, 1, 3, 2), (3, 0, 1, 2), (0, 1, 2, 2), (0, 1, 2, 3, 4)]
     if name == "row" and function in ORDERED:
         return WRONG_ROWS + NO_ORDERS
     if name == "row":
