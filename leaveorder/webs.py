@@ -102,29 +102,34 @@ def web_told(text):
     """The web with this text."""
     if not is_text(text):
         raise InvalidText(0)
-    count = count_told(text)
-    ties = []
+    web, at = web_told_at(text, 0, 1)
+    if at < len(text):
+        raise InvalidText(at)
+    return web
+
+
+def web_told_at(text, at, least):
+    """The tuple (web of at least so many places that the text tells from the index on, index behind it)."""
+    found = [count for count in range(least, MOST_PLACES + 1) if LETTERS[count - 1] == text[at:at + 1]]
+    if not found:
+        raise InvalidText(at)
+    if text[at + 1:at + 2] != ":":
+        raise InvalidText(at + 1)
+    ties, at = pairs_told(text, at + 2, found[0])
+    return (found[0], ties), at
+
+
+def pairs_told(text, at, count):
+    """The tuple (ascending tuple of pairs of so many places that the text tells from the index on, index behind it)."""
+    pairs = []
     left = all_pairs(count)
-    at = 2
-    while at < len(text):
-        if not left or (ties and text[at] != ","):
-            raise InvalidText(at)
-        if ties:
+    while left and at < len(text) and (text[at] == "," if pairs else text[at] in LETTERS):
+        if pairs:
             at += 1
-        tie = tie_told(text, at, left)
-        ties.append(tie)
-        left = [pair for pair in left if pair > tie]
+        pairs.append(tie_told(text, at, left))
+        left = [pair for pair in left if pair > pairs[-1]]
         at += 2
-    return (count, tuple(ties))
-
-
-def count_told(text):
-    """How many places the text's first letter and colon tell."""
-    if not text or text[0] not in LETTERS:
-        raise InvalidText(0)
-    if text[1:2] != ":":
-        raise InvalidText(1)
-    return LETTERS.index(text[0]) + 1
+    return tuple(pairs), at
 
 
 def tie_told(text, at, left):

@@ -1,12 +1,12 @@
 """Each function of the program with right arguments."""
 
-from leaveorder import (bare_rounds, covers, dyes, fillings, leaving, lot_trees, orders, partings, starts, stretches,
-                        subtrees, swaps, tables, webs, whole_lots, widths)
+from leaveorder import (bare_rounds, covers, dyes, fillings, joining, leaving, lot_trees, orders, paper_texts, partings,
+                        starts, stretches, subtrees, swaps, tables, webs, whole_lots, widths)
 from tests.wrong import (DYEING, FAMILY, FAN, HOST, HOUSE, ORDER, OTHER_TREE, SPREAD, STRETCHES, TABLE, THICKET, TREE,
                          TWIG)
 
 MODULES = (webs, leaving, bare_rounds, whole_lots, partings, lot_trees, subtrees, orders, starts, swaps, dyes, covers,
-           fillings, widths, stretches, tables)
+           fillings, widths, stretches, tables, joining, paper_texts)
 OTHER_DYEING, OTHER_ORDER = (1, 0, 0, 2, 0), (4, 2, 1, 3, 0)
 WEIGHTS = (3, 0, 1000000, 7, 2)
 
@@ -172,9 +172,20 @@ CALLS = [
     (tables.is_denial, ("web", "tables", "value"), (TWIG, FAMILY, ((0,) * 4,) * 4)),
     (tables.torn_family, ("web",), (HOUSE,)),
     (tables.torn_denial, ("web",), (HOUSE,)),
+    (joining.glued, ("web", "other_web", "lot", "other_lot"), (HOUSE, TWIG, (0, 4), (0, 3))),
+    (joining.with_place, ("web", "lot"), (HOUSE, (0, 2))),
+    (joining.less_place, ("web", "place"), (HOUSE, 2)),
+    (joining.put_in, ("web", "place", "other_web"), (HOUSE, 2, FAN)),
+    (joining.joined_all, ("web", "other_web"), (HOUSE, FAN)),
+    (joining.drawn, ("web", "tie"), (HOUSE, (1, 4))),
+    (joining.power, ("web", "number"), (HOUSE, 2)),
+    (joining.is_firm, ("web", "lot"), (HOUSE, (0, 1, 4))),
+    (joining.firm_lots, ("web",), (HOUSE,)),
 ]
 ANY_VALUE = [(webs.is_web, ("value",), (HOUSE,)), (webs.web_told, ("text",), ("e:ab,de",)),
-             (subtrees.is_host, ("value",), (HOST,))]
+             (subtrees.is_host, ("value",), (HOST,)), (paper_texts.is_paper, ("value",), (("order", TWIG, ORDER),)),
+             (paper_texts.paper_text, ("value",), (("filling", HOUSE, ((0, 2),)),)),
+             (paper_texts.paper_told, ("text",), ("a;c:ab,bc;ac;ab,bc",))]
 
 # What tells a list; each of its entries is made of tuples, lots and integers alone.
 LISTS = (
@@ -183,4 +194,5 @@ LISTS = (
     lot_trees.way_meets, lot_trees.trees, lot_trees.branches, lot_trees.fixed_branches, lot_trees.tree_exchanges,
     lot_trees.tree_row, orders.index_counts, starts.starts, swaps.swaps_of, swaps.swap_row,
     dyes.exchange_row, covers.apart_counts, fillings.spare_ties, fillings.least_fillings,
+    joining.firm_lots,
 )

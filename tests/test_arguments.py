@@ -5,8 +5,8 @@ import inspect
 import unittest
 from itertools import combinations
 
-from leaveorder import (bare_rounds, covers, dyes, errors, fillings, leaving, lot_trees, orders, partings, starts,
-                        stretches, subtrees, swaps, tables, webs, whole_lots, widths)
+from leaveorder import (bare_rounds, covers, dyes, errors, fillings, joining, leaving, lot_trees, orders, paper_texts,
+                        partings, starts, stretches, subtrees, swaps, tables, webs, whole_lots, widths)
 from tests.at_hand import BIG, ODD_VALUES, bare_web, deep, full_web, ring_web
 from tests.calls import ANY_VALUE, CALLS, LISTS, MODULES
 from tests.wrong import (DYEING, ERRORS, FAMILY, FAN, HOST, HOUSE, ORDER, OTHER_TREE, SPREAD, TREE, TWIG, WRONG_HOSTS,
@@ -188,7 +188,25 @@ class WrongArgumentsTest(unittest.TestCase):
                 (tables.is_whole_table, (bare_web(9), ((1, 1),) * 9, None), errors.TooMany),
                 (tables.torn_family, (bare_web(11),), errors.TooMany),
                 (tables.torn_denial, (big_ring,), errors.TooMany),
-                (tables.torn_family, ((11, []),), errors.InvalidWeb)):
+                (tables.torn_family, ((11, []),), errors.InvalidWeb),
+                (joining.glued, (ring, ring, (0, 1, 2), (0, 4)), errors.InvalidLot),
+                (joining.glued, (ring, ring, (0, 1, 2), (0, 1, 2)), errors.NotTied),
+                (joining.glued, (ring, ring, (0, 1), (0, 2)), errors.InvalidLot),
+                (joining.glued, (ring, ring, (0, 1), (0,)), errors.InvalidLot),
+                (joining.glued, (big_ring, ring, (0, 1), (0,)), errors.InvalidLot),
+                (joining.glued, (big_ring, ring, (0, 2), (0, 2)), errors.NotTied),
+                (joining.glued, (big_ring, ring, (0, 1), (0, 1)), errors.TooMany),
+                (joining.with_place, (big_ring, (1, 0)), errors.InvalidLot),
+                (joining.with_place, (big_ring, ()), errors.TooMany),
+                (joining.less_place, (bare_web(1), 1), errors.InvalidPlace),
+                (joining.less_place, (bare_web(1), 0), errors.InvalidPlace),
+                (joining.put_in, (big_ring, 12, None), errors.InvalidPlace),
+                (joining.put_in, (big_ring, 0, None), errors.InvalidWeb),
+                (joining.put_in, (big_ring, 0, bare_web(2)), errors.TooMany),
+                (joining.joined_all, (big_ring, bare_web(1)), errors.TooMany),
+                (joining.joined_all, (big_ring, None), errors.InvalidWeb),
+                (joining.power, (ring, 12), errors.InvalidCount),
+                (paper_texts.paper_text, (("order", ring, (0, 1, 2, 3)),), errors.InvalidPaper)):
             self.assertIs(self.raised(function, list(arguments)), error, (function.__name__, arguments))
 
     def test_of_two_trees_that_are_none_the_first_one_is_told(self):
@@ -290,7 +308,8 @@ class CallsTest(unittest.TestCase):
         self.assertEqual(len(listed), len(set(listed)))
         for name, count in (("webs", 13), ("leaving", 7), ("bare_rounds", 11), ("whole_lots", 6), ("partings", 10),
                             ("lot_trees", 16), ("subtrees", 11), ("orders", 6), ("starts", 6), ("swaps", 5), ("dyes", 12),
-                            ("covers", 12), ("fillings", 14), ("widths", 7), ("stretches", 17), ("tables", 10)):
+                            ("covers", 12), ("fillings", 14), ("widths", 7), ("stretches", 17), ("tables", 10),
+                            ("joining", 9), ("paper_texts", 3)):
             self.assertEqual(len([1 for module, _ in listed if module == "leaveorder." + name]), count, name)
 
     def test_by_name_as_by_position(self):
@@ -329,6 +348,10 @@ class CallsTest(unittest.TestCase):
             stretches.is_apart_ways(SPIDER, (4, 5, 6), value)
             tables.is_whole_table(TWIG, FAMILY, value)
             tables.is_denial(TWIG, FAMILY, value)
+            paper_texts.is_paper(value)
+            for function in (paper_texts.paper_text, paper_texts.paper_told):
+                with self.assertRaises(errors.LeaveError):
+                    function(value)
             self.assertEqual(repr(value), repr(kept))
 
     def test_lists_are_new(self):

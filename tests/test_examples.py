@@ -1,21 +1,26 @@
-"""The rows of the document's examples of parts 1 to 10."""
+"""All rows of the document's examples."""
 
 import unittest
 
 from leaveorder.bare_rounds import (bare_ring, bare_rings, bare_through, bared, is_bare, least_bare, least_stuck, rest,
                                     rest_among, ring_told, ties_across)
+from leaveorder.console import Console
 from leaveorder.covers import (apart_along, apart_counts, apart_number, apart_paper, fewest_cover, heaviest_apart,
                                is_apart_paper, is_weight_paper, most_apart, nth_apart)
 from leaveorder.dyes import (direction_count, dyed_back, dyeing_count, exchange_row, exchanged, fewest_dyes,
                              first_dyeing, is_dyeing, is_exchange_row, later_counts)
-from leaveorder.errors import InvalidText, NotApart, NotEven, NotFilling, NotLeaving, NotParting, NotTied, NotTree
+from leaveorder.errors import (InvalidText, NotApart, NotEven, NotFilling, NotLeaving, NotParting, NotShown, NotTied,
+                               NotTree, Refused)
 from leaveorder.fillings import (fewest_count, filling_by, filling_by_lots, is_calm, is_filling, is_greatest_calm,
                                  is_least_filling, least_fillings, lots_of_filling, spare_ties)
+from leaveorder.joining import drawn, firm_lots, glued, is_firm, power, put_in, with_place
 from leaveorder.leaving import (first_hitch, first_order, is_order, later_neighbours, may_leave, order_ending)
+from leaveorder.live import LeavingLive, Live
 from leaveorder.lot_trees import (branches, first_tree, fixed_branches, is_lot_tree, meets, nth_tree, split_place,
                                   tree_count, tree_exchanged, tree_exchanges, tree_number, tree_row, tree_sum, trees,
                                   way_meets)
 from leaveorder.orders import ahead_count, index_counts, next_order, nth_order, order_count, order_number
+from leaveorder.paper_texts import paper_text, paper_told
 from leaveorder.partings import (fewest_parting, first_crossing, full_pieces, is_crossing, is_least_parting, is_parting,
                                  least_in, part_counts, partings, partings_of)
 from leaveorder.starts import free_in, is_start, order_staying, start_count, stay_over
@@ -315,6 +320,81 @@ class LineExamplesTest(unittest.TestCase):
             [clash(two, fam), clash(two, ((1, 1, 0, 2), (1, 1, 1, 1))), sums_within(two, fam, (0, 2)),
              weight_at(two, fam, (1, 1, 1))],
             [None, (0, 1), ((1, 1), (1, 1), (0, 1), (2, 1)), (2, 1)])
+
+
+class JoiningExamplesTest(unittest.TestCase):
+
+    def test_webs_put_together(self):
+        self.assertEqual(web_text(glued(web_told("c:ab,bc"), web_told("c:ab,ac,bc"), (1, 2), (0, 1))), "d:ab,bc,bd,cd")
+        self.assertEqual(
+            [web_text(put_in(web_told("c:ab,bc"), 1, web_told("b:"))), web_text(drawn(ring, (0, 1)))],
+            ["d:ac,ad,bc,bd", "c:ab,ac,bc"])
+        self.assertEqual(
+            [web_text(power(web_told("d:ab,bc,cd"), 2)), web_text(with_place(web_told("b:"), (0, 1)))],
+            ["d:ab,ac,bc,bd,cd", "c:ac,bc"])
+        self.assertEqual(
+            [firm_lots(web_told("f:ab,ad,bc,cd,de,df")), is_firm(ring, (0, 1)), is_firm(ring, (0, 1, 2)), is_firm(ring, ())],
+            [[(0, 1, 2, 3), (3, 4), (3, 5)], True, False, False])
+        with self.assertRaises(NotTied) as caught:
+            glued(ring, ring, (0, 1, 2), (0, 1, 2))
+        self.assertEqual(caught.exception.tie, (0, 2))
+
+
+class LiveExamplesTest(unittest.TestCase):
+
+    def test_live(self):
+        live = Live(ring)
+        self.assertEqual(
+            [live.row, live.put_in, live.puts(), live.widths(), live.leavings(), live.lots()],
+            [(0, 1, 2, 3), ((1, 3),), [1], [2], [False], [(0, 1, 3), (1, 2, 3)]])
+        with self.assertRaises(NotLeaving) as caught:
+            live.clear()
+        self.assertEqual(caught.exception.ring, (0, 1, 2, 3))
+        self.assertEqual(
+            [live.tie(0, 2), live.put_in, live.would(("untie", 0, 1)), live.ease(), live.row, live.puts(),
+             live.leavings()],
+            [None, ((1, 3),), (0, 2, True), 1, (1, 0, 2, 3), [1, 1, 0], [False, True, True]])
+        self.assertEqual(
+            [live.come((1, 3)), live.row, live.put_in, live.undo(), live.next_mark],
+            [4, (4, 1, 0, 2, 3), ((1, 3),), ("come", (1, 3)), 4])
+
+    def test_leaving_live(self):
+        kept = LeavingLive(web_told("d:ab,bc,cd"))
+        with self.assertRaises(NotLeaving) as caught:
+            kept.tie(0, 3)
+        self.assertEqual(caught.exception.ring, (0, 1, 2, 3))
+        self.assertEqual(
+            [kept.tie(0, 2), kept.row, kept.move(3, 0), kept.row, kept.deeds],
+            [None, (0, 1, 2, 3), None, (3, 0, 1, 2), [("tie", 0, 2), ("move", 3, 0)]])
+        with self.assertRaises(Refused):
+            kept.move(2, 0)
+
+    def test_papers(self):
+        self.assertEqual(
+            [paper_text(("order", web_told("c:ab,bc"), (0, 2, 1))), paper_told("r;d:ab,ad,bc,cd;abcd")],
+            ["o;c:ab,bc;acb", ("ring", (4, ((0, 1), (0, 3), (1, 2), (2, 3))), (0, 1, 2, 3))])
+        self.assertEqual(
+            [paper_text(("filling", ring, ((0, 2),))), paper_told("a;c:ab,bc;ac;ab,bc")],
+            ["f;d:ab,ad,bc,cd;ac", ("apart", (3, ((0, 1), (1, 2))), (0, 2), ((0, 1), (1, 2)))])
+        with self.assertRaises(NotShown) as caught:
+            paper_told("o;c:ab,bc;bac")
+        self.assertEqual(caught.exception.count, 0)
+        for text, index in (("o;c:ab,bc;aa", 11), ("r;c:ab,bc;", 2), ("r;d:ab,ad,bc,cd;adcb", 17)):
+            with self.assertRaises(InvalidText) as caught:
+                paper_told(text)
+            self.assertEqual(caught.exception.index, index)
+
+    def test_console(self):
+        console = Console()
+        self.assertEqual(
+            console.execute("run web a d:ab,ad,bc,cd; tie 0 2; filled; ease; row; lots; leavings; journal"),
+            "ok; ok; 1-3; 1; 1 0 2 3; 0+1+2 0+2+3; no yes yes; web a d:ab,ad,bc,cd; tie 0 2; ease")
+        self.assertEqual(
+            [console.execute("paper"), console.execute("undo"), console.execute("come 1 3"), console.execute("filled")],
+            ["o;d:ab,ac,ad,bc,cd;bacd", "ease", "4", "1-3"])
+        with self.assertRaises(NotLeaving) as caught:
+            console.execute("leaving b d:ab,ad,bc,cd")
+        self.assertEqual(caught.exception.ring, (0, 1, 2, 3))
 
 
 if __name__ == "__main__":

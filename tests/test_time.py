@@ -5,9 +5,11 @@ import unittest
 from itertools import combinations
 from math import gcd
 
-from leaveorder import (bare_rounds, covers, dyes, fillings, leaving, lot_trees, orders, partings, starts, stretches,
-                        subtrees, swaps, tables, webs, whole_lots, widths)
+from leaveorder import (bare_rounds, covers, dyes, fillings, joining, leaving, lot_trees, orders, paper_texts, partings,
+                        starts, stretches, subtrees, swaps, tables, webs, whole_lots, widths)
+from leaveorder.console import Console
 from leaveorder.errors import LeaveError
+from leaveorder.live import LeavingLive, Live, replay
 from tests.at_hand import (BIG, bare_web, leaving_webs, pairs, parted_web, path_web, some_hosts, some_spread, star_web,
                            tied_twice, two_sided_web, webs_of_twelve)
 
@@ -23,11 +25,12 @@ OF_A_WEB = (
     fillings.fewest_count, fillings.fewest_filling, fillings.least_fillings, widths.width, widths.least_width_row,
     widths.widest_thicket, stretches.apart_three, stretches.claw, stretches.stretches, stretches.lot_row_count,
     stretches.line_order_count, stretches.even_order, tables.torn_family, tables.torn_denial,
+    joining.firm_lots,
 )
 EVERY = tuple(range(12))
 OF_A_LOT = (webs.is_tied, webs.pieces, webs.inner, bare_rounds.rest_among, leaving.may_leave, leaving.order_ending,
             whole_lots.is_whole, partings.full_pieces, starts.is_start, starts.stay_over, starts.free_in,
-            starts.order_staying, covers.apart_number)
+            starts.order_staying, covers.apart_number, joining.is_firm)
 OF_A_TREE = (lot_trees.is_lot_tree, lot_trees.meets, lot_trees.tree_sum, lot_trees.split_place, lot_trees.tree_number,
              lot_trees.tree_exchanges)
 
@@ -199,6 +202,55 @@ class TimeTest(unittest.TestCase):
             for value in (tuple(sorted(many))[:600], tuple(sorted(many, reverse=True))[:600][::-1]):
                 if self.asked(widths.is_thicket, web, value):
                     self.asked(widths.meeting_lot, web, value)
+
+    def test_live_webs(self):
+        for web in webs_of_twelve()[::2]:
+            for kind in (Live, LeavingLive) if leaving.is_leaving(web) else (Live,):
+                live = self.asked(kind, web)
+                for _ in range(12):
+                    self.asked(live.begin)
+                for at in range(60):
+                    self.asked(live.would, ("ease",))
+                    self.asked(live.would, ("clear",))
+                    marks = live.marks
+                    deed = ("move", marks[at * 7 % len(marks)], at * 5 % len(marks))
+                    if at % 3 == 1:
+                        deed = ("leave", marks[at * 5 % len(marks)])
+                    elif at % 3 == 2:
+                        deed = ("come", marks[:at % 4])
+                    self.asked(getattr(live, deed[0]), *deed[1:])
+                self.asked(live.ease)
+                for function in (live.puts, live.widths, live.leavings, live.lots, live.twin):
+                    self.asked(function)
+                again = self.asked(replay, web, live.deeds)
+                self.assertEqual(again.start, web)
+                for _ in range(12):
+                    self.asked(live.drop)
+
+    def test_consoles(self):
+        console = Console()
+        for name in ("a", "b", "c", "d", "e", "f", "g", "h"):
+            self.asked(console.execute, f"web {name} {webs.web_text(two_sided_web(12))}")
+            for _ in range(3):
+                self.asked(console.execute, "run " + "; ".join(["move 0 9", "move 9 0"] * 10))
+        for _ in range(2):
+            self.asked(console.execute, "run " + "; ".join(["puts", "widths", "leavings", "lots", "journal", "paper"] * 10))
+        self.asked(console.execute, "run " + "; ".join(["ease"] + ["twin a", "use b", "same a", "where"] * 15 + ["leave 99"]))
+
+    def test_papers(self):
+        for web in webs_of_twelve()[::3]:
+            papers = [("filling", web, self.asked(fillings.fewest_filling, web))]
+            if leaving.is_leaving(web):
+                papers.append(("order", web, leaving.first_order(web)))
+            else:
+                papers.append(("ring", web, bare_rounds.bare_ring(web)))
+            for paper in papers:
+                self.asked(paper_texts.is_paper, paper)
+                text = self.asked(paper_texts.paper_text, paper)
+                self.assertEqual(self.asked(paper_texts.paper_told, text), paper)
+        for text in ("a;l:;abcdefghijkl;" + ",".join("abcdefghijkl"), "a;l:;a;" + "a," * 9000, "o;l:;" + "a" * 19000,
+                     "f;l:;" + "ab," * 6000, "r;l:;" + "abcdefghijkl" * 1500, "a;l:;" + "abc" * 6000):
+            self.asked(paper_texts.paper_told, text)
 
     def test_hosts(self):
         for host in [path_web(12), star_web(12), *some_hosts(12, 6, 90)]:

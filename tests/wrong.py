@@ -1,6 +1,6 @@
 """Wrong arguments for each parameter, and the webs of the right calls."""
 
-from leaveorder import bare_rounds, covers, dyes, errors, stretches, subtrees, tables, webs
+from leaveorder import bare_rounds, covers, dyes, errors, joining, stretches, subtrees, tables, webs
 from tests.at_hand import BIG, ODD_VALUES, deep
 
 FAN = (4, ((0, 1), (0, 2), (0, 3), (1, 2), (2, 3)))
@@ -145,6 +145,10 @@ ORDERED = (dyes.dyed_back, covers.apart_along)
 
 def wrong_values(function, names, right, name):
     """Wrong arguments for the parameter of the function, if all else is as in the list of calls."""
+    if name == "number" and function is joining.power:
+        return WRONG_NUMBERS + [0, 12, 13, BIG]
+    if name == "other_lot" and function is joining.glued:
+        return WRONG_LOTS + [(), (0,), (1, 2), (2, 4), (0, 1, 2), (0, 4)]
     if name == "lot" and function in (webs.inner, subtrees.common_spots):
         return WRONG_LOTS + [()]
     if name == "other_place":
