@@ -18,10 +18,9 @@ class Live:
         self._show()
 
     def __eq__(self, other):
-        if not isinstance(other, Live):
+        if not isinstance(other, Live) or self.__class__.__name__ != other.__class__.__name__:
             return False
-        same_class = self.__class__.__name__ == other.__class__.__name__
-        return same_class and self.start == other.start and self._deeds == other._deeds
+        return self.start == other.start and self._deeds == other._deeds
 
     @property
     def deeds(self):

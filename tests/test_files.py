@@ -63,6 +63,17 @@ class FilesTest(unittest.TestCase):
                                                 ast.NamedExpr, ast.Div), (name, getattr(node, "lineno", 0)))
                 self.assertFalse(isinstance(node, ast.Constant) and isinstance(node.value, float), name)
 
+    def test_calls_with_stars_and_equality(self):
+        for name, tree in trees():
+            for node in ast.walk(tree):
+                if isinstance(node, ast.Call):
+                    for told in node.args:
+                        if isinstance(told, ast.Starred):
+                            self.assertIsInstance(told.value, (ast.Name, ast.Attribute), (name, node.lineno))
+                if isinstance(node, ast.FunctionDef) and node.name == "__eq__":
+                    for part in ast.walk(node):
+                        self.assertNotIsInstance(part, (ast.Assign, ast.AugAssign, ast.Delete), (name, node.lineno))
+
     def test_builtins_are_used_and_not_renamed(self):
         every = set(dir(builtins))
         for name, tree in trees():

@@ -193,6 +193,7 @@ class WholeTablesTest(unittest.TestCase):
         self.assertIs(is_whole_table(bare_web(2), ones, ((1, 1),) * 4), True)
         self.assertIs(is_whole_table(bare_web(2), ones, ((1, 3), (5, 3), (5, 3), (1, 3))), True)
         self.assertIs(is_whole_table(bare_web(2), ones, ((2, 1), (0, 1), (0, 1), (2, 1))), True)
+        self.assertIs(is_whole_table(bare_web(2), ones, ((3, 1), (-1, 1), (-1, 1), (3, 1))), False)
         self.assertIs(is_whole_table(bare_web(2), ((2, 2), (2, 3)), ((1, 1),) * 4), False)
         self.assertIs(is_whole_table(ring_web(4), ((4,) * 4,) * 4, ((1, 1),) * 16), True)
         self.assertIs(is_whole_table(ring_web(4), ((4,) * 4,) * 4, ((2, 1), (0, 1)) * 8), False)
