@@ -220,6 +220,10 @@ class ExchangesTest(unittest.TestCase):
             self.assertIs(is_exchange_row(path, 2, start, start, value), value == [] and type(value) is list)
         self.assertEqual([is_exchange_row(path, 2, start, start, row) for row in ([], (), [(3, 0), (3, 1)], [(3, 0)])],
                          [True, False, True, False])
+        # Dyes out of bounds, though the row leads back.
+        for dye in (2, 3, -1, BIG):
+            self.assertIs(is_exchange_row(path, 2, start, start, [(3, dye), (3, 1)]), False)
+            self.assertIs(is_exchange_row(path, 3, start, start, [(3, dye), (3, 1)]), dye == 2)
         self.assertIs(is_exchange_row(block_web(12, 4), 1000, tuple(range(12)), tuple(range(12)),
                                       [(0, 999), (0, 0)] * 450), True)
 
